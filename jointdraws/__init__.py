@@ -1,0 +1,1 @@
+"""Jointdraws: common draws among people who may lie or hold back."""
