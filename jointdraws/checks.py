@@ -18,3 +18,15 @@ def is_name(value):
     if not isinstance(value, str) or not 1 <= len(value) <= 8:
         return False
     return all([letter in LETTERS for letter in value])
+
+
+def are_some_of(value, allowed):
+    """Tell whether a value is a list of different ones of some allowed strings."""
+    if not is_list(value) or not all([item in allowed for item in value]):
+        return False
+    return len(set(value)) == len(value)
+
+
+def has_just(value, names):
+    """Tell whether a value is a dict that has some different names as its keys, and no others."""
+    return isinstance(value, dict) and len(value) == len(names) and all([name in value for name in names])

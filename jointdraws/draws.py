@@ -51,7 +51,7 @@ class Draw:
         """Return the ascending list of the rows of a round; an end has none."""
         if not self._draws:
             return []
-        return _rows_of([len(shares) for person, shares, stand_in in self._givers])
+        return rows_of([len(shares) for person, shares, stand_in in self._givers])
 
     def depth(self):
         """Return the greatest number of rows of a path."""
@@ -78,7 +78,7 @@ class Draw:
         for row in path:
             if not _is_row(draw._givers, row):
                 raise BadPath(path)
-            draw = draw._draws[_place_of(draw._givers, row)]
+            draw = draw._draws[place_of(draw._givers, row)]
         return draw
 
     def text(self):
@@ -173,7 +173,7 @@ def _are_shares(value):
     return all([nothing.below(share) for share in value]) and total(value) == 1
 
 
-def _rows_of(counts):
+def rows_of(counts):
     """Return the ascending list of the rows whose numbers are below the counts."""
     rows = [()]
     for count in counts:
@@ -188,7 +188,7 @@ def _is_row(givers, value):
     return all([is_whole(number) and 0 <= number < len(giver[1]) for giver, number in zip(givers, value)])
 
 
-def _place_of(givers, row):
+def place_of(givers, row):
     """Return the place that a row has among all rows of the givers."""
     place = 0
     for giver, number in zip(givers, row):

@@ -1,5 +1,6 @@
 """What comes of draws if all people are honest."""
 
+from jointdraws.checks import has_just
 from jointdraws.draws import End, Round, rounds_of
 from jointdraws.errors import BadWish, NoEnd, NoPerson
 from jointdraws.ratios import Ratio, is_number, total
@@ -50,10 +51,7 @@ def honest_shares(draw):
 
 def is_wish(draw, value):
     """Tell whether a value is a wish for a draw."""
-    names = draw.ends()
-    if not isinstance(value, dict) or len(value) != len(names):
-        return False
-    return all([name in value and is_number(value[name]) for name in names])
+    return has_just(value, draw.ends()) and all([is_number(number) for number in value.values()])
 
 
 def honest_mean(draw, wish):

@@ -61,3 +61,46 @@ def assert_raises(test, error, attribute, value, call):
     test.assertEqual(type(caught.exception), error)
     if attribute is not None:
         test.assertIs(getattr(caught.exception, attribute), value)
+
+
+def is_some_of(value, names):
+    """Whether a value is a list of different ones of some names."""
+    if not isinstance(value, (list, tuple)) or not all(isinstance(item, str) and item in names for item in value):
+        return False
+    return len(set(value)) == len(value)
+
+
+def wrong_lists(names):
+    """Values that are no lists of different ones of some names: strangers, somebody twice, and other kinds."""
+    first = names[0] if names else "ann"
+    wrong = [["eve"], ("zoe",), [first, "stranger"], [first, first], (first, first), names + names[-1:], first, {first}, {first: 1},
+             [first.upper()], [None], [True], [0], [[first]], [(first,)], [first, None], [first, [first]], [first, Ratio(1)],
+             [first, End("a")], "", {}, [first, ""], [{}], [first, {"a": (1,)}]]
+    return [value for value in wrong + wrong_values() if not is_some_of(value, names)]
+
+
+def wrong_wishes(names):
+    """Values that are no wishes for a draw with these names of ends."""
+    good = {name: 1 for name in names}
+    short = {name: 1 for name in names[1:]}
+    wrong = [short, {**short, "other": 1}, {**good, "other": 1}, {**good, names[0]: True}, {**good, names[-1]: None},
+             {**good, names[0]: "1"}, {**good, names[-1]: [1]}, {**good, names[0]: End("a")}, list(good), tuple(good.items()),
+             {**good, 0: 1}, {**short, (names[0],): 1}, {name.upper(): 1 for name in names}]
+    return [value for value in wrong + wrong_values()
+            if not (isinstance(value, dict) and sorted(map(str, value)) == names and all(type(value[name]) in (int, Ratio) for name in names))]
+
+
+def wrong_amounts():
+    """Values that are no numbers from 0 on."""
+    wrong = [-1, Ratio(-1, 10 ** 50), -10 ** 99, "1", "1/2", [1], (0,), {"a": 0}]
+    return [value for value in wrong + wrong_values() if not is_number(value) or fraction(value) < 0]
+
+
+def is_number(value):
+    return type(value) in (int, Ratio)
+
+
+def wrong_counts(most):
+    """Values that are no integers from 0 to a greatest one."""
+    wrong = [-1, most + 1, 10 ** 99, Ratio(most), Ratio(0), Ratio(1, 2), True, False, str(most), [most], (0,)]
+    return [value for value in wrong + wrong_values() if type(value) is not int or not 0 <= value <= most]

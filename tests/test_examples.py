@@ -3,12 +3,20 @@
 import inspect
 import unittest
 
-from jointdraws import draws, honest, ratios
+from jointdraws import corners as corners_file
+from jointdraws import draws, honest, ratios, stakes
+from jointdraws import plans as plans_file
+from jointdraws import worths as worths_file
+from jointdraws.corners import (
+    alike_for_wishes, barring_wish, bounds_of, can_reach, corners, mix, never_worse, parting_wish)
 from jointdraws.draws import End, Round, read_draw
 from jointdraws.errors import BadName, BadText
 from jointdraws.honest import (
     chance, honest_mean, honest_shares, is_even, is_turns, numbers_back, numbers_given, told_back)
+from jointdraws.plans import count_plans, held_mean, is_plan, plan_shares, plans, runs, score
 from jointdraws.ratios import Ratio, as_ratio, greatest, read_ratio, total
+from jointdraws.stakes import higher_stake, least_stake, paying_plan, piece_plans, pieces, safe_stake, same_worths
+from jointdraws.worths import best_plan, gain, greatest_worth, is_table, table, worth, worths
 from tests.samples import assert_raises
 
 
@@ -17,6 +25,10 @@ class ExamplesTest(unittest.TestCase):
         fair = [Ratio(1, 2), Ratio(1, 2)]
         self.unlike = Round("held", [("ann", fair, 0), ("bob", fair, 0)], [End("no"), End("yes"), End("yes"), End("no")])
         self.more = read_draw("open(cid 1/3 2/3 *1; yes, held(ann 1/2 1/2 *0; no, yes))")
+        self.sly = (((1,), (), ()), ((1,), ("bob",), ()))
+        self.win = {"no": 0, "yes": 1}
+        self.votes = read_draw("held(ann 1/2 1/2 *0, bob 1/2 1/2 *0, cid 1/2 1/2 *0; no, no, no, yes, no, yes, yes, yes)")
+        self.unseen = read_draw("sealed(ann 1/2 1/2 *0, bob 1/2 1/2 *0; no, yes, yes, no)")
 
     def test_ratios(self):
         half = Ratio(2, 4)
@@ -54,6 +66,79 @@ class ExamplesTest(unittest.TestCase):
             [[part.text() for part in numbers_back(more, "cid", "yes")], is_turns(more), is_even(unlike), numbers_given(more)],
             [['1/2', '1/2'], False, True, {'ann': 1, 'cid': 1}])
 
+    def test_plans(self):
+        unlike, more, sly = self.unlike, self.more, self.sly
+        self.assertEqual([count_plans(unlike, ["bob"]), count_plans(unlike, []), count_plans(more, ["cid", "ann"])], [8, 1, 5])
+        self.assertEqual(
+            [is_plan(unlike, ["bob"], sly), list(plans(unlike, ["bob"]))[5] == sly, plan_shares(unlike, ["bob"], sly)["yes"] == 1],
+            [True, True, True])
+        self.assertEqual([(path, held, part.text()) for path, held, part in runs(unlike, ["bob"], sly)],
+                         [(((0, 1),), 0, '1/2'), (((1, 0),), 1, '1/2')])
+        self.assertEqual(
+            [held_mean(unlike, ["bob"], sly).text(), score(unlike, ["bob"], sly, {"no": 0, "yes": 1}, stake=Ratio(1, 3)).text()],
+            ['1/2', '5/6'])
+
+    def test_worths(self):
+        unlike, win = self.unlike, self.win
+        self.assertEqual(
+            [worth(unlike, ["bob"], win).text(), worth(unlike, ["bob"], win, stake=2).text(),
+             gain(unlike, ["bob"], win, stake=Ratio(1, 3)).text()],
+            ['1', '1/2', '1/3'])
+        self.assertEqual(
+            [best_plan(unlike, ["bob"], win) == self.sly, is_table(unlike, ["bob"], win, table(unlike, ["bob"], win)),
+             len(table(unlike, ["bob"], win))],
+            [True, True, 5])
+        self.assertEqual([greatest_worth(unlike, win, 1, stake=1)[1], len(worths(unlike, win)), worth(unlike, [], win).text()],
+                         [(), 4, '1/2'])
+
+    def test_stakes(self):
+        unlike, votes, unseen, win = self.unlike, self.votes, self.unseen, self.win
+        self.assertEqual([tuple([part.text() for part in row]) for row in pieces(unlike, ["bob"], win)],
+                         [('0', '1', '-1/2'), ('1', '1/2', '0')])
+        self.assertEqual(
+            [piece_plans(unlike, ["bob"], win)[0] == self.sly, least_stake(unlike, ["bob"], win).text(),
+             paying_plan(unlike, ["bob"], win)],
+            [True, '1', None])
+        self.assertEqual(
+            [least_stake(unlike, ["bob"], win, limit=Ratio(1, 4)).text(), safe_stake(unlike, 1)[0].text(), safe_stake(unlike, 1)[1:]],
+            ['1/2', '1', (('ann',), 'no')])
+        self.assertEqual(
+            [len(pieces(votes, ["ann"], win)), least_stake(votes, ["ann"], win),
+             paying_plan(votes, ["ann"], win) == (((1,), (), ()),) * 4],
+            [1, None, True])
+        self.assertEqual(
+            [same_worths(unlike, unseen, ["bob"], win), higher_stake(unlike, unseen, ["bob"], win).below(1),
+             higher_stake(unseen, unlike, ["bob"], win)],
+            [False, True, None])
+
+    def test_corners(self):
+        unlike, votes, unseen = self.unlike, self.votes, self.unseen
+        self.assertEqual([tuple([part.text() for part in shares]) for shares, plan in corners(unlike, ["bob"])],
+                         [('0', '1'), ('1', '0')])
+        self.assertEqual(
+            [corners(unlike, ["bob"])[0][1] == self.sly, [part.text() for part in corners(unseen, ["bob"])[0][0]],
+             len(corners(unlike, []))],
+            [True, ['1/2', '1/2'], 1])
+        mostly = {"no": Ratio(1, 4), "yes": Ratio(3, 4)}
+        mixed = mix(unlike, ["bob"], mostly)
+        self.assertEqual(
+            [can_reach(unlike, ["bob"], mostly),
+             total([part * plan_shares(unlike, ["bob"], plan)["yes"] for part, plan in mixed]).text(), len(mixed),
+             mix(unseen, ["bob"], mostly)],
+            [True, '3/4', 2, None])
+        wish = barring_wish(unseen, ["bob"], mostly)
+        self.assertEqual(
+            [worth(unseen, ["bob"], wish).below(total([mostly[name] * wish[name] for name in wish])),
+             barring_wish(unlike, ["bob"], mostly)],
+            [True, None])
+        self.assertEqual(
+            [alike_for_wishes(unlike, unseen, ["bob"]), never_worse(unlike, unseen, ["bob"]), parting_wish(unlike, unseen, ["bob"])],
+            [False, True, None])
+        self.assertEqual(
+            [[part.text() for part in bounds_of(votes, ["ann", "cid"], ["yes"])],
+             [part.text() for part in bounds_of(votes, ["ann"], ["yes"])]],
+            [['0', '1'], ['1/4', '3/4']])
+
 
 class InterfaceTest(unittest.TestCase):
     def test_functions(self):
@@ -64,6 +149,21 @@ class InterfaceTest(unittest.TestCase):
             honest: {"chance": "(draw, path)", "honest_shares": "(draw)", "honest_mean": "(draw, wish)",
                      "told_back": "(draw, name)", "numbers_back": "(draw, person, name)", "is_turns": "(draw)",
                      "is_even": "(draw)", "numbers_given": "(draw)"},
+            plans_file: {"count_plans": "(draw, liars)", "plans": "(draw, liars)", "is_plan": "(draw, liars, value)",
+                         "runs": "(draw, liars, plan)", "plan_shares": "(draw, liars, plan)", "held_mean": "(draw, liars, plan)",
+                         "score": "(draw, liars, plan, wish, *, stake=0)"},
+            worths_file: {"worth": "(draw, liars, wish, *, stake=0)", "gain": "(draw, liars, wish, *, stake=0)",
+                          "best_plan": "(draw, liars, wish, *, stake=0)", "table": "(draw, liars, wish, *, stake=0)",
+                          "is_table": "(draw, liars, wish, value, *, stake=0)", "worths": "(draw, wish, *, stake=0)",
+                          "greatest_worth": "(draw, wish, most, *, stake=0)"},
+            stakes: {"pieces": "(draw, liars, wish)", "piece_plans": "(draw, liars, wish)",
+                     "least_stake": "(draw, liars, wish, *, limit=0)", "paying_plan": "(draw, liars, wish, *, limit=0)",
+                     "safe_stake": "(draw, most, *, limit=0)", "same_worths": "(one, other, liars, wish)",
+                     "higher_stake": "(one, other, liars, wish)"},
+            corners_file: {"corners": "(draw, liars)", "can_reach": "(draw, liars, shares)", "mix": "(draw, liars, shares)",
+                           "barring_wish": "(draw, liars, shares)", "alike_for_wishes": "(one, other, liars)",
+                           "never_worse": "(one, other, liars)", "parting_wish": "(one, other, liars)",
+                           "bounds_of": "(draw, liars, names)"},
         }
         for module, functions in listed.items():
             for name, arguments in functions.items():

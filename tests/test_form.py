@@ -224,6 +224,42 @@ class ExpressionsTest(unittest.TestCase):
                     self.assertNotIn("%", node.value, f"L27 {name}:{node.lineno}")
                     self.assertNotRegex(node.value, "^__.*__$|[.]__?$", f"L27 {name}:{node.lineno}")
 
+    def test_names_in_comprehensions(self):
+        kinds = (ast.ListComp, ast.DictComp, ast.SetComp, ast.GeneratorExp)
+        for name, tree in trees():
+            for function in [node for node in ast.walk(tree) if isinstance(node, ast.FunctionDef)]:
+                comprehensions = [node for node in ast.walk(function) if isinstance(node, kinds)]
+                targets = {id(each): {inner.id for part in each.generators for inner in ast.walk(part.target) if isinstance(inner, ast.Name)}
+                           for each in comprehensions}
+                within = {id(inner) for each in comprehensions for inner in ast.walk(each)}
+                plain = {node.id for node in ast.walk(function) if isinstance(node, ast.Name)
+                         and isinstance(node.ctx, ast.Store) and id(node) not in within}
+                for each in comprehensions:
+                    for inner in ast.walk(each):
+                        if inner is not each and isinstance(inner, kinds):
+                            taken = (plain | targets[id(each)]) - {"_"}
+                            self.assertEqual(targets[id(inner)] & taken, set(), f"L7 {name}:{inner.lineno}")
+
+    def test_attributes_are_no_methods(self):
+        methods, stored = set(), {}
+        for name, tree in trees():
+            for node in ast.walk(tree):
+                if isinstance(node, ast.ClassDef):
+                    methods |= {item.name for item in node.body if isinstance(item, ast.FunctionDef)}
+                if isinstance(node, ast.Attribute) and isinstance(node.ctx, ast.Store):
+                    stored[node.attr] = f"L5 L18 {name}:{node.lineno} {node.attr}"
+        self.assertEqual([stored[attribute] for attribute in stored if attribute in methods], [])
+
+    def test_no_function_has_the_name_of_a_generator(self):
+        yields, names = set(), []
+        for _, tree in trees():
+            for node in ast.walk(tree):
+                if isinstance(node, ast.FunctionDef):
+                    names.append(node.name)
+                    if any(isinstance(inner, (ast.Yield, ast.YieldFrom)) for inner in ast.walk(node)):
+                        yields.add(node.name)
+        self.assertEqual([name for name in yields if names.count(name) > 1], [])
+
     def test_generators_over_own_equality(self):
         for name, tree in trees():
             for node in ast.walk(tree):

@@ -1,0 +1,170 @@
+"""What liars can do in a draw.
+
+A state is a draw that can be come to, with those of its people who are out. A move is what the liars
+settle on for a round before they see anything: in an open round nothing, so that there is one move; in
+all other rounds their numbers. A move has a list of choices for each row that the honest givers of the
+round can give, and a choice is a tuple (given, held, row, number): the numbers that the liars give,
+those of them who hold back, the row that counts, and the number of the next state.
+
+Chances are integers in here: a mean at a state is told multiplied by the unit of the state.
+"""
+
+from itertools import combinations
+from math import lcm
+
+from jointdraws.draws import End, place_of, rows_of
+
+
+class State:
+    """A draw that can be come to, with what can be done there; an end has no rows and no choices."""
+
+    def __init__(self, draw, weights, base, moves):
+        self.draw = draw
+        self.weights = weights
+        self.base = base
+        self.moves = moves
+        self.unit = base
+        self.inner = 1
+        self.factors = []
+
+    def choices(self):
+        """Return the list of all choices of all moves."""
+        return [choice for move in self.moves for ways in move for choice in ways]
+
+
+class Game:
+    """All states of a draw, given by its shapes, for some liars; the number of the first one is 0."""
+
+    def __init__(self, shapes, liars):
+        self._shapes = shapes
+        self._liars = liars
+        self._numbers = [{} for _ in shapes]
+        self.many = 0
+        self._number_of(len(shapes) - 1, ())
+        self.states = {}
+        for place in reversed(range(len(shapes))):
+            for out in list(self._numbers[place]):
+                self.states[self._numbers[place][out]] = self._state_of(place, out)
+        # Draws are met ahead of their further draws, and means are worked out the other way.
+        self.order = list(self.states)[::-1]
+        for number in self.order:
+            self._fit_units(self.states[number])
+
+    def _number_of(self, place, out):
+        """Return the number of a state, a new one if it has not been met."""
+        people = self._shapes[place].draw.people()
+        known = tuple([person for person in out if person in people])
+        if known not in self._numbers[place]:
+            self._numbers[place][known] = self.many
+            self.many = self.many + 1
+        return self._numbers[place][known]
+
+    def _state_of(self, place, out):
+        """Return the state of a draw with some people out."""
+        shape = self._shapes[place]
+        if isinstance(shape.draw, End):
+            return State(shape.draw, [], 1, [[]])
+        weights, base = _weights_of([giver for giver in shape.draw.givers if giver[0] not in self._liars])
+        moves = []
+        for move in _moves_of(shape.draw, self._liars, out):
+            moves.append([[self._choice_of(shape, out, way) for way in ways] for ways in move])
+        return State(shape.draw, weights, base, moves)
+
+    def _choice_of(self, shape, out, way):
+        """Return the choice for a way (given, held, row) to go on."""
+        given, held, row = way
+        later = out_after(shape.draw, out, held)
+        return (given, held, row, self._number_of(shape.nexts[place_of(shape.draw.givers, row)], later))
+
+    def _fit_units(self, state):
+        """Set the unit of a state, and the factors by which the means at the next states get a common unit."""
+        numbers = sorted(set([choice[3] for choice in state.choices()]))
+        for number in numbers:
+            state.inner = lcm(state.inner, self.states[number].unit)
+        state.factors = [(number, state.inner // self.states[number].unit) for number in numbers]
+        state.unit = state.base * state.inner
+
+    def spots(self):
+        """Return the dict from all spots that can be come to, by any choices, to the numbers of their states."""
+        found = {((), ()): 0}
+        waiting = [((), ())]
+        while waiting:
+            path, out = waiting.pop()
+            state = self.states[found[(path, out)]]
+            for _, held, row, number in state.choices():
+                spot = (path + (row,), out_after(state.draw, out, held))
+                if spot not in found:
+                    found[spot] = number
+                    waiting.append(spot)
+        return found
+
+
+def all_sets(people):
+    """Return the ascending tuples of all sets of people, told in ascending order; fewer people stand first."""
+    return sets_up_to(people, len(people))
+
+
+def sets_up_to(people, most):
+    """Return the ascending tuples of all sets of at most so many people, in the same order."""
+    sets = []
+    for size in range(most + 1):
+        for chosen in combinations(people, size):
+            sets.append(chosen)
+    return sets
+
+
+def out_after(draw, out, held):
+    """Return who is out behind a round in which some people have held back."""
+    if draw.kind != "last":
+        return out
+    return tuple(sorted(out + held))
+
+
+def _weights_of(givers):
+    """Return integers in the ratio of the chances of the rows of honest givers, and the sum of them."""
+    weights = [1]
+    base = 1
+    for _, shares, _ in givers:
+        common = 1
+        for share in shares:
+            common = lcm(common, share.bottom)
+        tops = [share.top * (common // share.bottom) for share in shares]
+        weights = [weight * top for weight in weights for top in tops]
+        base = base * common
+    return weights, base
+
+
+def _moves_of(draw, liars, out):
+    """Return the moves of a round, with ways (given, held, row) in the place of the choices."""
+    honest = [giver for giver in draw.givers if giver[0] not in liars]
+    acting = [giver for giver in draw.givers if giver[0] in liars and giver[0] not in out]
+    names = [giver[0] for giver in honest + acting]
+    rows = rows_of([len(giver[1]) for giver in honest])
+    givens = rows_of([len(giver[1]) for giver in acting])
+    helds = [()]
+    if draw.kind == "held" or draw.kind == "last":
+        helds = sorted(all_sets(sorted([giver[0] for giver in acting])))
+    if draw.kind == "open":
+        return [[_ways_of(draw, names, seen, givens, helds) for seen in rows]]
+    return [[_ways_of(draw, names, seen, [given], helds) for seen in rows] for given in givens]
+
+
+def _ways_of(draw, names, seen, givens, helds):
+    """Return the ways (given, held, row) to go on, in ascending order, if the honest givers give some numbers.
+
+    The names are those of the honest givers, and behind them those of the liars who act.
+    """
+    ways = []
+    for given in givens:
+        told = dict(zip(names, seen + given))
+        for held in helds:
+            ways.append((given, held, _row_of(draw.givers, told, held)))
+    return ways
+
+
+def _row_of(givers, told, held):
+    """Return the row that counts if people give the numbers they are told with, and some of them hold back."""
+    row = []
+    for person, _, stand_in in givers:
+        row.append(stand_in if person in held else told.get(person, stand_in))
+    return tuple(row)

@@ -1,0 +1,64 @@
+"""What functions need of their arguments: each of these raises the error that tells what is wrong."""
+
+from jointdraws.checks import are_some_of, is_whole
+from jointdraws.errors import BadCount, BadLiars, BadNames, BadNumber, BadStake, BadWish, TooMany, UnlikeEnds
+from jointdraws.honest import is_wish
+from jointdraws.ratios import as_ratio, is_number
+
+MOST_NAMES = 3
+
+
+def is_amount(value):
+    """Tell whether a value is a number from 0 on."""
+    return is_number(value) and not as_ratio(value).below(0)
+
+
+def need_liars(draw, value):
+    """Raise BadLiars unless a value is a list of liars of a draw."""
+    if not are_some_of(value, draw.people()):
+        raise BadLiars(value)
+
+
+def need_common_liars(one, other, value):
+    """Raise UnlikeEnds unless two draws have the same names of ends, and BadLiars unless a value is liars of both."""
+    if one.ends() != other.ends():
+        raise UnlikeEnds()
+    need_liars(one, value)
+    need_liars(other, value)
+
+
+def need_wish(draw, value):
+    """Raise BadWish unless a value is a wish for a draw."""
+    if not is_wish(draw, value):
+        raise BadWish(value)
+
+
+def need_stake(value):
+    """Raise BadStake unless a value is a stake."""
+    if not is_amount(value):
+        raise BadStake(value)
+
+
+def need_limit(value):
+    """Raise BadNumber unless a value is a number from 0 on."""
+    if not is_amount(value):
+        raise BadNumber(value)
+
+
+def need_count(value, most):
+    """Raise BadCount unless a value is an integer from 0 to the most."""
+    if not is_whole(value) or not 0 <= value <= most:
+        raise BadCount(value)
+
+
+def need_names(draw, value):
+    """Raise BadNames unless a value is a list of different names of ends of a draw."""
+    if not are_some_of(value, draw.ends()):
+        raise BadNames(value)
+
+
+def need_few_names(draw):
+    """Raise TooMany if a draw has more names of ends than corners are told for."""
+    many = len(draw.ends())
+    if many > MOST_NAMES:
+        raise TooMany(many)
