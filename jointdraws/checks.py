@@ -20,6 +20,13 @@ def is_name(value):
     return all([letter in LETTERS for letter in value])
 
 
+def are_names(value, most):
+    """Tell whether a value is a list of different names, at least one and at most so many."""
+    if not is_list(value) or not 1 <= len(value) <= most:
+        return False
+    return all([is_name(item) for item in value]) and len(set(value)) == len(value)
+
+
 def are_some_of(value, allowed):
     """Tell whether a value is a list of different ones of some allowed strings."""
     if not is_list(value) or not all([item in allowed for item in value]):

@@ -9,10 +9,10 @@ those of them who hold back, the row that counts, and the number of the next sta
 Chances are integers in here: a mean at a state is told multiplied by the unit of the state.
 """
 
-from itertools import combinations
 from math import lcm
 
 from jointdraws.draws import End, place_of, rows_of
+from jointdraws.groups import all_sets
 
 
 class State:
@@ -97,20 +97,6 @@ class Game:
                     found[spot] = number
                     waiting.append(spot)
         return found
-
-
-def all_sets(people):
-    """Return the ascending tuples of all sets of people, told in ascending order; fewer people stand first."""
-    return sets_up_to(people, len(people))
-
-
-def sets_up_to(people, most):
-    """Return the ascending tuples of all sets of at most so many people, in the same order."""
-    sets = []
-    for size in range(most + 1):
-        for chosen in combinations(people, size):
-            sets.append(chosen)
-    return sets
 
 
 def out_after(draw, out, held):

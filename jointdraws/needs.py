@@ -1,7 +1,8 @@
 """What functions need of their arguments: each of these raises the error that tells what is wrong."""
 
-from jointdraws.checks import are_some_of, is_whole
-from jointdraws.errors import BadCount, BadLiars, BadNames, BadNumber, BadStake, BadWish, TooMany, UnlikeEnds
+from jointdraws.checks import are_some_of, has_just, is_whole
+from jointdraws.errors import (
+    BadCount, BadLiars, BadNames, BadNumber, BadPrices, BadStake, BadWish, TooMany, UnlikeEnds)
 from jointdraws.honest import is_wish
 from jointdraws.ratios import as_ratio, is_number
 
@@ -19,10 +20,15 @@ def need_liars(draw, value):
         raise BadLiars(value)
 
 
-def need_common_liars(one, other, value):
-    """Raise UnlikeEnds unless two draws have the same names of ends, and BadLiars unless a value is liars of both."""
+def need_like_ends(one, other):
+    """Raise UnlikeEnds unless two draws have the same names of ends."""
     if one.ends() != other.ends():
         raise UnlikeEnds()
+
+
+def need_common_liars(one, other, value):
+    """Raise UnlikeEnds unless two draws have the same names of ends, and BadLiars unless a value is liars of both."""
+    need_like_ends(one, other)
     need_liars(one, value)
     need_liars(other, value)
 
@@ -37,6 +43,12 @@ def need_stake(value):
     """Raise BadStake unless a value is a stake."""
     if not is_amount(value):
         raise BadStake(value)
+
+
+def need_number(value):
+    """Raise BadNumber unless a value is a number."""
+    if not is_number(value):
+        raise BadNumber(value)
 
 
 def need_limit(value):
@@ -55,6 +67,12 @@ def need_names(draw, value):
     """Raise BadNames unless a value is a list of different names of ends of a draw."""
     if not are_some_of(value, draw.ends()):
         raise BadNames(value)
+
+
+def need_prices(draw, value):
+    """Raise BadPrices unless a value is a dict from just the people of a draw to numbers from 0 on."""
+    if not has_just(value, draw.people()) or not all([is_amount(price) for price in value.values()]):
+        raise BadPrices(value)
 
 
 def need_few_names(draw):

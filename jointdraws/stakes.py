@@ -5,7 +5,8 @@ multiplied by the mean of the number of holds. The worth is the greatest of thes
 """
 
 from jointdraws.acting import Acting
-from jointdraws.games import Game, sets_up_to
+from jointdraws.games import Game
+from jointdraws.groups import sets_up_to
 from jointdraws.honest import honest_mean, honest_shares
 from jointdraws.needs import need_common_liars, need_count, need_liars, need_limit, need_wish
 from jointdraws.ratios import Ratio, greatest, least

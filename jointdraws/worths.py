@@ -1,7 +1,8 @@
 """Worths: the greatest scores that liars can get."""
 
 from jointdraws.acting import Acting, acting_in
-from jointdraws.games import Game, sets_up_to
+from jointdraws.games import Game
+from jointdraws.groups import sets_up_to
 from jointdraws.honest import honest_mean
 from jointdraws.needs import need_count, need_liars, need_stake, need_wish
 from jointdraws.shapes import shapes_of

@@ -73,7 +73,7 @@ def is_some_of(value, names):
 def wrong_lists(names):
     """Values that are no lists of different ones of some names: strangers, somebody twice, and other kinds."""
     first = names[0] if names else "ann"
-    wrong = [["eve"], ("zoe",), [first, "stranger"], [first, first], (first, first), names + names[-1:], first, {first}, {first: 1},
+    wrong = [["eve"], ("zoe",), [first, "stranger"], [first, first], (first, first), names + names[-1:], first, {first: 1},
              [first.upper()], [None], [True], [0], [[first]], [(first,)], [first, None], [first, [first]], [first, Ratio(1)],
              [first, End("a")], "", {}, [first, ""], [{}], [first, {"a": (1,)}]]
     return [value for value in wrong + wrong_values() if not is_some_of(value, names)]
@@ -104,3 +104,14 @@ def wrong_counts(most):
     """Values that are no integers from 0 to a greatest one."""
     wrong = [-1, most + 1, 10 ** 99, Ratio(most), Ratio(0), Ratio(1, 2), True, False, str(most), [most], (0,)]
     return [value for value in wrong + wrong_values() if type(value) is not int or not 0 <= value <= most]
+
+
+def wrong_prices(people):
+    """Values that are no dicts from just these people to numbers from 0 on."""
+    good = {person: 1 for person in people}
+    short = {person: 1 for person in people[1:]}
+    first = people[0]
+    wrong = [short, {**good, "zoe": 1}, {**short, "zoe": 1}, {**good, first: -1}, {**good, first: Ratio(-1, 9)}, {**good, first: True},
+             {**good, first: None}, {**good, first: "1"}, {**good, first: [1]}, list(good), list(good.items()), {**good, 0: 1},
+             {**short, (first,): 1}, {**good, first: End("a")}, tuple(people), {**good, first: {}}]
+    return wrong + wrong_values()

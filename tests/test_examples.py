@@ -3,16 +3,23 @@
 import inspect
 import unittest
 
+from jointdraws import built, cards, draws, force, honest, ratios, stakes
 from jointdraws import corners as corners_file
-from jointdraws import draws, honest, ratios, stakes
+from jointdraws import matters as matters_file
 from jointdraws import plans as plans_file
 from jointdraws import worths as worths_file
+from jointdraws.built import lean, of_kind, repeated, replaced, with_ends, with_people
+from jointdraws.cards import best_draws, card, draw_within, is_as_good, is_better, least_bias
 from jointdraws.corners import (
     alike_for_wishes, barring_wish, bounds_of, can_reach, corners, mix, never_worse, parting_wish)
 from jointdraws.draws import End, Round, read_draw
-from jointdraws.errors import BadName, BadText
+from jointdraws.errors import BadName, BadText, Twice
+from jointdraws.force import (
+    alike_in_force, cheapest_force, family_draw, forces, forcing_sets, is_strategy, parting_force, strategy)
 from jointdraws.honest import (
     chance, honest_mean, honest_shares, is_even, is_turns, numbers_back, numbers_given, told_back)
+from jointdraws.matters import (
+    cheapest_set, idle_people, least_sets, matters, needed_people, parts_of_gain, who_matters)
 from jointdraws.plans import count_plans, held_mean, is_plan, plan_shares, plans, runs, score
 from jointdraws.ratios import Ratio, as_ratio, greatest, read_ratio, total
 from jointdraws.stakes import higher_stake, least_stake, paying_plan, piece_plans, pieces, safe_stake, same_worths
@@ -139,6 +146,86 @@ class ExamplesTest(unittest.TestCase):
              [part.text() for part in bounds_of(votes, ["ann"], ["yes"])]],
             [['0', '1'], ['1/4', '3/4']])
 
+    def test_force(self):
+        turns = read_draw("open(ann 1/2 1/2 *0; no, open(bob 1/2 1/2 *0; no, yes))")
+        self.assertEqual(
+            [forces(turns, ["ann", "bob"], ["yes"]), forces(turns, ["ann"], ["yes"]), forces(turns, ["ann"], ["no"]),
+             forces(turns, [], ["no", "yes"])],
+            [True, False, True, True])
+        self.assertEqual(
+            [strategy(turns, ["bob"], ["no"]), strategy(turns, ["bob"], ["yes"]), is_strategy(turns, ["ann"], ["no"], {(): 0}),
+             is_strategy(turns, ["ann"], ["no"], {(): 1})],
+            [{((1,),): 0}, None, True, False])
+        self.assertEqual(
+            [forcing_sets(turns, ["yes"]), forcing_sets(turns, ["no"]),
+             cheapest_force(turns, ["no"], {"ann": 3, "bob": Ratio(5, 2)})[1]],
+            [[('ann', 'bob')], [('ann',), ('bob',)], ('bob',)])
+        pairs = family_draw(["ann", "bob", "cid"], [("ann", "bob"), ("ann", "cid"), ("bob", "cid")])
+        self.assertEqual(
+            [forcing_sets(pairs, ["yes"]), forcing_sets(pairs, ["no"]) == forcing_sets(pairs, ["yes"]), pairs.depth() <= 3,
+             family_draw(["ann"], []).text()],
+            [[('ann', 'bob'), ('ann', 'cid'), ('bob', 'cid')], True, True, 'no'])
+        people, names = parting_force(turns, pairs)
+        known = [person for person in people if person in turns.people()]
+        self.assertEqual(
+            [alike_in_force(turns, family_draw(["ann", "bob"], [["bob", "ann"]])), parting_force(turns, turns),
+             forces(turns, known, names) == forces(pairs, people, names)],
+            [True, None, False])
+
+    def test_built(self):
+        unlike, more = self.unlike, self.more
+        self.assertEqual([replaced(unlike, "no", more).text() == unlike.text().replace("no", more.text()), of_kind(unlike, "sealed").kind],
+                         [True, 'sealed'])
+        self.assertEqual(
+            [len(repeated(unlike, 3)), repeated(unlike, 3).at(((0, 0), (0, 1), (0, 1))).name,
+             with_ends(unlike, {"no": "x", "yes": "x"}).ends()],
+            [64, 'yes', ['x']])
+        self.assertEqual(
+            [lean(with_ends(unlike, {"no": "x", "yes": "x"})).text(), with_people(more, {"ann": "eve", "cid": "eve"}).people()],
+            ['x', ['eve']])
+        with self.assertRaises(Twice) as caught:
+            with_people(unlike, {"ann": "eve", "bob": "eve"})
+        self.assertEqual(caught.exception.person, 'eve')
+
+    def test_matters(self):
+        unlike, votes, unseen, win = self.unlike, self.votes, self.unseen, self.win
+        self.assertEqual(
+            [who_matters(unlike), who_matters(unseen), who_matters(unlike, ["ann"]), who_matters(unseen, ["ann"]), matters(votes, "cid")],
+            [['ann', 'bob'], [], [], ['bob'], True])
+        self.assertEqual(
+            [least_sets(unlike, win, 1), least_sets(unseen, win, 1), least_sets(votes, win, Ratio(3, 4)), least_sets(unlike, win, 2)],
+            [[('ann',), ('bob',)], [('ann', 'bob')], [('ann',), ('bob',), ('cid',)], []])
+        self.assertEqual(
+            [needed_people(unlike, win, 1), needed_people(unseen, win, 1), idle_people(unseen, win, 0), idle_people(unlike, win, 2)],
+            [[], ['ann', 'bob'], ['ann', 'bob'], None])
+        price, liars = cheapest_set(votes, win, 1, {"ann": 2, "bob": Ratio(1, 2), "cid": 1})
+        self.assertEqual(
+            [price.text(), liars, [part.text() for part in parts_of_gain(unlike, win).values()], sorted(parts_of_gain(votes, win))],
+            ['3/2', ('bob', 'cid'), ['1/4', '1/4'], ['ann', 'bob', 'cid']])
+
+    def test_cards(self):
+        three = ["ann", "bob", "cid"]
+        baton = read_draw("open(ann 1/2 1/2 *0; open(bob 1/2 1/2 *0; no, yes), open(cid 1/2 1/2 *0; no, yes))")
+        told = card(baton, three)
+        self.assertEqual(
+            [len(told), [part.text() for part in told[("ann",)]], [part.text() for part in told[("bob",)]], told[("bob", "cid")] == (1, 1)],
+            [8, ['1/2', '1/2'], ['3/4', '3/4'], True])
+        majority = read_draw("open(ann 1/2 1/2 *0; open(bob 1/2 1/2 *0; no, open(cid 1/2 1/2 *0; no, yes)), "
+                             "open(bob 1/2 1/2 *0; open(cid 1/2 1/2 *0; no, yes), yes))")
+        self.assertEqual(
+            [is_better(baton, majority, three), is_as_good(baton, baton, three), is_better(baton, baton, three),
+             is_as_good(majority, baton, three)],
+            [True, True, False, False])
+        self.assertEqual(
+            [len(best_draws(["ann"], 1)), best_draws(["ann"], 1)[0].text(), least_bias(three, 2, 1)[0].text(),
+             least_bias(three, 1, 0)[0].text()],
+            [3, 'yes', '3/4', '1/2'])
+        bounds = {(person,): (Ratio(3, 4), Ratio(3, 4)) for person in three}
+        self.assertEqual(
+            [draw_within(three, 1, bounds), card(draw_within(three, 2, bounds), three)[("ann",)][0].below(1),
+             draw_within(three, 3, {(): (0, Ratio(1, 2))})],
+            [None, True, None])
+
 
 class InterfaceTest(unittest.TestCase):
     def test_functions(self):
@@ -164,6 +251,18 @@ class InterfaceTest(unittest.TestCase):
                            "barring_wish": "(draw, liars, shares)", "alike_for_wishes": "(one, other, liars)",
                            "never_worse": "(one, other, liars)", "parting_wish": "(one, other, liars)",
                            "bounds_of": "(draw, liars, names)"},
+            force: {"forces": "(draw, people, names)", "strategy": "(draw, people, names)",
+                    "is_strategy": "(draw, people, names, value)", "forcing_sets": "(draw, names)",
+                    "cheapest_force": "(draw, names, prices)", "family_draw": "(people, sets)",
+                    "alike_in_force": "(one, other)", "parting_force": "(one, other)"},
+            built: {"replaced": "(draw, name, other)", "with_people": "(draw, names)", "with_ends": "(draw, names)",
+                    "repeated": "(draw, times)", "of_kind": "(draw, kind)", "lean": "(draw)"},
+            matters_file: {"matters": "(draw, person, liars=())", "who_matters": "(draw, liars=())",
+                           "least_sets": "(draw, wish, bound, *, stake=0)", "needed_people": "(draw, wish, bound, *, stake=0)",
+                           "idle_people": "(draw, wish, bound, *, stake=0)",
+                           "cheapest_set": "(draw, wish, bound, prices, *, stake=0)", "parts_of_gain": "(draw, wish, *, stake=0)"},
+            cards: {"card": "(draw, people)", "is_as_good": "(one, other, people)", "is_better": "(one, other, people)",
+                    "best_draws": "(people, depth)", "draw_within": "(people, depth, bounds)", "least_bias": "(people, depth, most)"},
         }
         for module, functions in listed.items():
             for name, arguments in functions.items():

@@ -151,6 +151,7 @@ class LeastStakeTest(unittest.TestCase):
         self.assertEqual(least_stake(draw, ["bob"], WIN, limit=Ratio(1, 2) - Ratio(1, 10 ** 9)), Ratio(2, 10 ** 9))
         self.assertEqual([least_stake(draw, ["bob"], WIN), least_stake(draw, ["bob"], WIN, limit=10 ** 99)], [1, 0])
         draw = read_draw(VOTES_TEXT)
+        self.assertEqual(paying_plan(draw, ["ann"], WIN), (((1,), (), ()),) * 4)
         self.assertEqual(least_stake(draw, ["ann"], WIN, limit=Ratio(1, 4)), 0)
         self.assertIsNone(least_stake(draw, ["ann"], WIN, limit=Ratio(1, 4) - Ratio(1, 10 ** 9)))
         self.assertIsNone(paying_plan(draw, ["ann"], WIN, limit=Ratio(1, 4)))

@@ -53,6 +53,14 @@ class WorthTest(unittest.TestCase):
             self.assertEqual(gain(draw, liars, wish), gain(draw, liars, wish, stake=Ratio(0)))
             self.assertEqual(score(draw, liars, best_plan(draw, liars, wish), wish), worth(draw, liars, wish))
 
+    def test_without_a_stake_it_is_0_where_it_counts(self):
+        told = table(unlike(), ["bob"], WIN)
+        self.assertEqual([told, told[((), ())]], [table(unlike(), ["bob"], WIN, stake=0), 1])
+        self.assertIs(is_table(unlike(), ["bob"], WIN, told), True)
+        self.assertIs(is_table(unlike(), ["bob"], WIN, told, stake=1), False)
+        self.assertEqual([worths(unlike(), WIN)[("bob",)], worths(unlike(), WIN, stake=1)[("bob",)]], [1, Ratio(1, 2)])
+        self.assertEqual([greatest_worth(unlike(), WIN, 1), greatest_worth(unlike(), WIN, 1, stake=1)], [(1, ("ann",)), (Ratio(1, 2), ())])
+
     def test_each_kind_of_round(self):
         # Ann wants an end that hangs on both numbers alike: she gets it if she sees the other number.
         text = "%s(ann 1/2 1/2 *0, bob 1/2 1/2 *0; no, yes, yes, no)"
