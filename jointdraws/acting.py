@@ -17,8 +17,8 @@ class Acting:
     def __init__(self, game, wish, stake):
         self._game = game
         self._size = as_ratio(stake).bottom
-        for number in wish.values():
-            self._size = lcm(self._size, as_ratio(number).bottom)
+        for wished in wish.values():
+            self._size = lcm(self._size, as_ratio(wished).bottom)
         cost = (stake * Ratio(self._size)).top
         rewards = {name: (wish[name] * Ratio(self._size)).top for name in wish}
         self._values = [0] * game.many

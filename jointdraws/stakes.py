@@ -67,9 +67,9 @@ def _best_lines(draw, liars, wish):
 def _found_lines(game, wish):
     """Return lines of best plans, those with more holds first, with all that the worth consists of."""
     found = [Line(game, wish, 0)]
-    ahead = [Line(game, wish, _stake_without_holds(game, wish))]
     if found[0].holds == 0:
         return found
+    ahead = [Line(game, wish, _stake_without_holds(game, wish))]
     while ahead:
         steep = found[-1]
         flat = ahead[-1]
