@@ -1,7 +1,7 @@
 """Draws that are made of draws."""
 
 from jointdraws.checks import has_just, is_name, is_whole
-from jointdraws.draws import KINDS, End, Round, rounds_of
+from jointdraws.draws import KINDS, End, Round, count_paths, rounds_of
 from jointdraws.errors import BadCount, BadKind, BadNames, NoEnd, TooMany, Twice
 from jointdraws.shapes import shapes_of
 
@@ -84,7 +84,7 @@ def repeated(draw, times):
         raise BadCount(times)
     count = 1
     for _ in range(times):
-        count = count * len(draw)
+        count = count * count_paths(draw)
     if count > MOST_PATHS:
         raise TooMany(count)
     shapes = shapes_of(draw)

@@ -1,7 +1,9 @@
 """Draws: ends and rounds, what they can be asked, and their texts.
 
 Draws may be deeper than calls may be nested, so they are gone through with lists of what is
-still to be done, and not by functions that call themselves.
+still to be done, and not by functions that call themselves. The same object may stand in a draw
+many times over, so that there may be far more paths than objects; each draw has a mark, by which
+it is known that an object has been met.
 """
 
 from jointdraws.checks import LETTERS, is_list, is_name, is_whole
@@ -11,6 +13,10 @@ from jointdraws.ratios import Ratio, is_number, read_ratio, total
 
 KINDS = ("open", "sealed", "held", "last")
 MOST_ROWS = 16
+
+
+class Mark:
+    """What tells one object from all others: draws are equal by what they are made of, marks are not."""
 
 
 class Draw:
@@ -25,6 +31,7 @@ class Draw:
         for further in draws:
             names.extend(further._ends)
             people.extend(further._people)
+        self.mark = Mark()
         self._word = word
         self._givers = givers
         self._draws = draws
@@ -199,27 +206,53 @@ def place_of(givers, row):
 def _are_alike(one, other):
     """Tell whether two draws are equal."""
     pairs = [(one, other)]
+    met = {}
     while pairs:
         left, right = pairs.pop()
-        # With equal givers both are ends, or both are rounds with as many further draws.
-        if left._word != right._word or left._givers != right._givers:
-            return False
-        for pair in zip(left._draws, right._draws):
-            pairs.append(pair)
+        pair = (left.mark, right.mark)
+        if left.mark != right.mark and pair not in met:
+            met[pair] = True
+            # With equal givers both are ends, or both are rounds with as many further draws.
+            if left._word != right._word or left._many != right._many or left._givers != right._givers:
+                return False
+            for further in zip(left._draws, right._draws):
+                pairs.append(further)
     return True
 
 
-def rounds_of(draw):
-    """Return the list of the rounds of a draw, in the order in which they stand in its text."""
-    rounds = []
+def count_paths(draw):
+    """Return the number of the whole paths of a draw; unlike a length, it may have any size."""
+    return draw._many
+
+
+def further_of(draw):
+    """Return the tuple of the further draws; an end has none."""
+    return draw._draws
+
+
+def givers_of(draw):
+    """Return the list of the people who give in the first round of a draw, in their order; an end has none."""
+    return [giver[0] for giver in draw._givers]
+
+
+def parts_of(draw):
+    """Return the list of the draws within a draw, each object once, in the order in which its text tells them."""
+    parts = []
+    met = {}
     waiting = [draw]
     while waiting:
         here = waiting.pop()
-        if isinstance(here, Round):
-            rounds.append(here)
-            for further in reversed(here.draws):
+        if here.mark not in met:
+            met[here.mark] = True
+            parts.append(here)
+            for further in reversed(here._draws):
                 waiting.append(further)
-    return rounds
+    return parts
+
+
+def rounds_of(draw):
+    """Return the list of the rounds of a draw, each object once, in the order in which its text tells them."""
+    return [here for here in parts_of(draw) if isinstance(here, Round)]
 
 
 def _pieces_of(draw):

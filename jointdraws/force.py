@@ -1,9 +1,10 @@
 """Who can force which ends in draws of turns."""
 
 from jointdraws.checks import are_names, are_some_of, is_list, is_whole
-from jointdraws.draws import End
+from jointdraws.diagrams import Diagrams
+from jointdraws.draws import End, parts_of
 from jointdraws.errors import BadFamily, BadNames
-from jointdraws.groups import all_sets, cheapest_of, least_of
+from jointdraws.groups import all_sets, cheapest_of, is_within, least_of
 from jointdraws.needs import need_liars, need_like_ends, need_names, need_prices
 from jointdraws.shapes import shapes_of
 from jointdraws.turns import fair_turn, forced_in, giver_of, is_turn_of, need_turns
@@ -41,8 +42,14 @@ def strategy(draw, people, names):
             numbers = [number for number in numbers if forced[nexts[number]]][:1]
             told[path] = numbers[0]
         for number in numbers:
-            waiting.append((path + ((number,),), nexts[number]))
+            if _have_turns(people, shapes[nexts[number]].draw):
+                waiting.append((path + ((number,),), nexts[number]))
     return told
+
+
+def _have_turns(people, draw):
+    """Tell whether there are turns of some people; where there are none, there may be far too many paths to go."""
+    return any([person in people for person in draw.people()])
 
 
 def is_strategy(draw, people, names, value):
@@ -54,8 +61,8 @@ def is_strategy(draw, people, names, value):
     waiting = [((), draw)]
     while waiting:
         path, here = waiting.pop()
-        if isinstance(here, End):
-            if here.name not in names:
+        if not _have_turns(people, here):
+            if not is_within(here.ends(), names):
                 return False
             continue
         numbers = list(range(len(here.draws)))
@@ -123,15 +130,27 @@ def parting_force(one, other):
     need_turns(one)
     need_turns(other)
     need_like_ends(one, other)
-    names = one.ends()
-    mine = _forced_by_all(one)
-    yours = _forced_by_all(other)
+    diagrams = Diagrams(_names_in_text(one))
+    mine = _forced_by_all(one, diagrams)
+    yours = _forced_by_all(other, diagrams)
     for people in all_sets(sorted(set(one.people() + other.people()))):
-        apart = mine[_those_in(people, one)] ^ yours[_those_in(people, other)]
-        if apart != 0:
-            bits = (apart & -apart).bit_length() - 1
-            return people, tuple([name for at, name in enumerate(names) if bits >> at & 1 == 1])
+        forced = mine[_those_in(people, one)]
+        beside = yours[_those_in(people, other)]
+        if forced != beside:
+            return people, diagrams.set_within(forced, beside)
     return None
+
+
+def _names_in_text(draw):
+    """Return the list of the names of the ends in the order in which the text tells them first.
+
+    Names of the same round stand side by side in it, which keeps diagrams small.
+    """
+    names = []
+    for here in parts_of(draw):
+        if isinstance(here, End) and here.name not in names:
+            names.append(here.name)
+    return names
 
 
 def _those_in(people, draw):
@@ -140,53 +159,21 @@ def _those_in(people, draw):
     return tuple([person for person in people if person in there])
 
 
-def _forced_by_all(draw):
-    """Return the dict from all sets of people to the sets of names that they force.
-
-    A set of names is told by a number that has a bit for each name, and sets of these by a number that
-    has a bit for each of these numbers.
-    """
+def _forced_by_all(draw, diagrams):
+    """Return the dict from all sets of people to the families of the sets of names that they force."""
     shapes = shapes_of(draw)
-    marks = _marks_of(draw.ends())
-    return {people: _forced_by(shapes, people, marks) for people in all_sets(draw.people())}
+    return {people: _forced_by(shapes, people, diagrams) for people in all_sets(draw.people())}
 
 
-def _forced_by(shapes, people, marks):
-    """Return the sets of names that some people force, if the marks tell which sets have a name."""
+def _forced_by(shapes, people, diagrams):
+    """Return the family of the sets of names that some people force."""
     told = []
     for shape in shapes:
+        ways = [told[place] for place in shape.nexts]
         if isinstance(shape.draw, End):
-            told.append(marks[shape.draw.name])
+            told.append(diagrams.with_name(shape.draw.name))
+        elif giver_of(shape.draw) in people:
+            told.append(diagrams.in_some(ways))
         else:
-            ways = [told[place] for place in shape.nexts]
-            told.append(_in_some(ways) if giver_of(shape.draw) in people else _in_all(ways))
+            told.append(diagrams.in_all(ways))
     return told[-1]
-
-
-def _in_some(ways):
-    """Return what is in at least one of some sets, told by numbers that have a bit for each thing."""
-    joined = ways[0]
-    for way in ways:
-        joined = joined | way
-    return joined
-
-
-def _in_all(ways):
-    """Return what is in all of some sets, told by numbers that have a bit for each thing."""
-    common = ways[0]
-    for way in ways:
-        common = common & way
-    return common
-
-
-def _marks_of(names):
-    """Return the dict from names to all sets of names that have them."""
-    marks = {}
-    for at, name in enumerate(names):
-        size = 1 << at
-        marks[name] = ((1 << size) - 1) << size
-        # What holds of the first sets is repeated for the others, in which later names are, too.
-        for _ in names[at + 1:]:
-            size = size + size
-            marks[name] = marks[name] | marks[name] << size
-    return marks

@@ -89,14 +89,36 @@ class Game:
         found = {((), ()): 0}
         waiting = [((), ())]
         while waiting:
-            path, out = waiting.pop()
-            state = self.states[found[(path, out)]]
-            for _, held, row, number in state.choices():
-                spot = (path + (row,), out_after(state.draw, out, held))
+            here = waiting.pop()
+            for spot, number in self._next_spots(here, found[here]):
                 if spot not in found:
                     found[spot] = number
                     waiting.append(spot)
         return found
+
+    def are_at_spots(self, told, value):
+        """Tell whether a value is a dict from just all spots to numbers equal to what is told of their states."""
+        if not isinstance(value, dict):
+            return False
+        found = {((), ()): 0}
+        waiting = [((), ())]
+        while waiting:
+            here = waiting.pop()
+            # There may be far more spots than keys: it ends with the first one that is no key.
+            if here not in value or told[found[here]] != value[here]:
+                return False
+            for spot, number in self._next_spots(here, found[here]):
+                if spot not in found:
+                    found[spot] = number
+                    waiting.append(spot)
+        return len(found) == len(value)
+
+    def _next_spots(self, spot, number):
+        """Return the list of the spots, with the numbers of their states, to which choices lead from a spot."""
+        path, out = spot
+        state = self.states[number]
+        choices = state.choices()
+        return [((path + (row,), out_after(state.draw, out, held)), after) for _, held, row, after in choices]
 
 
 def out_after(draw, out, held):

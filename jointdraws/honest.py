@@ -1,9 +1,10 @@
 """What comes of draws if all people are honest."""
 
 from jointdraws.checks import has_just
-from jointdraws.draws import End, Round, rounds_of
+from jointdraws.draws import End, further_of, givers_of, rounds_of
 from jointdraws.errors import BadWish, NoEnd, NoPerson
 from jointdraws.ratios import Ratio, is_number, total
+from jointdraws.shapes import shapes_of
 
 
 def chance(draw, path):
@@ -26,26 +27,19 @@ def _row_chance(draw, row):
     return part
 
 
-def _whole_ways(draw):
-    """Return the whole paths in ascending order, as tuples (path, name of the end, chance)."""
-    ways = []
-    waiting = [((), Ratio(1), draw)]
-    while waiting:
-        path, part, here = waiting.pop()
-        if isinstance(here, End):
-            ways.append((path, here.name, part))
-        else:
-            steps = list(zip(here.rows(), here.draws))
-            for row, further in reversed(steps):
-                waiting.append((path + (row,), part * _row_chance(here, row), further))
-    return ways
-
-
 def honest_shares(draw):
     """Return the dict from the names of the ends to their chances if all are honest."""
+    shapes = shapes_of(draw)
     shares = {name: Ratio(0) for name in draw.ends()}
-    for _, name, part in _whole_ways(draw):
-        shares[name] = shares[name] + part
+    reached = [Ratio(0) for _ in shapes]
+    reached[-1] = Ratio(1)
+    # Further draws stand ahead of the draw, so from the last one on all ways to a draw are known.
+    for place in reversed(range(len(shapes))):
+        here = shapes[place].draw
+        if isinstance(here, End):
+            shares[here.name] = reached[place]
+        for row, further in zip(here.rows(), shapes[place].nexts):
+            reached[further] = reached[further] + reached[place] * _row_chance(here, row)
     return shares
 
 
@@ -66,23 +60,36 @@ def told_back(draw, name):
     """Return the whole paths to ends with a name, with their chances if it is known that one was gone."""
     if name not in draw.ends():
         raise NoEnd(name)
-    ways = [(path, part) for path, reached, part in _whole_ways(draw) if reached == name]
-    whole = total([part for path, part in ways])
-    return [(path, part.over(whole)) for path, part in ways]
+    whole = honest_shares(draw)[name]
+    ways = []
+    waiting = [((), Ratio(1), draw)]
+    while waiting:
+        path, part, here = waiting.pop()
+        if isinstance(here, End):
+            ways.append((path, part.over(whole)))
+        steps = list(zip(here.rows(), further_of(here)))
+        for row, further in reversed(steps):
+            # There may be far more paths than those that lead to the name.
+            if name in further.ends():
+                waiting.append((path + (row,), part * _row_chance(here, row), further))
+    return ways
 
 
 def numbers_back(draw, person, name):
     """Return the chances that a person gave 0, 1, .. in the first round if it is known which name came."""
-    givers = draw.givers if isinstance(draw, Round) else ()
-    people = [giver[0] for giver in givers]
+    people = givers_of(draw)
     if person not in people:
         raise NoPerson(person)
+    if name not in draw.ends():
+        raise NoEnd(name)
     place = people.index(person)
-    parts = [Ratio(0) for _ in givers[place][1]]
-    for path, part in told_back(draw, name):
-        number = path[0][place]
-        parts[number] = parts[number] + part
-    return parts
+    parts = [Ratio(0) for _ in draw.givers[place][1]]
+    for row, further in zip(draw.rows(), draw.draws):
+        if name in further.ends():
+            number = row[place]
+            parts[number] = parts[number] + _row_chance(draw, row) * honest_shares(further)[name]
+    whole = total(parts)
+    return [part.over(whole) for part in parts]
 
 
 def is_turns(draw):
@@ -98,15 +105,13 @@ def is_even(draw):
 
 def numbers_given(draw):
     """Return the dict from the people to the greatest number of rounds on a path in which they give."""
-    most = {person: 0 for person in draw.people()}
-    waiting = [(draw, {})]
-    while waiting:
-        here, before = waiting.pop()
-        if isinstance(here, Round):
-            counts = dict(before)
-            for person, _, _ in here.givers:
-                counts[person] = counts.get(person, 0) + 1
-                most[person] = max(most[person], counts[person])
-            for further in here.draws:
-                waiting.append((further, counts))
-    return most
+    told = []
+    for shape in shapes_of(draw):
+        most = {person: 0 for person in shape.draw.people()}
+        for place in shape.nexts:
+            for person in told[place]:
+                most[person] = max(most[person], told[place][person])
+        for person in givers_of(shape.draw):
+            most[person] = most[person] + 1
+        told.append(most)
+    return told[-1]

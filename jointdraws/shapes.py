@@ -4,7 +4,7 @@ Many draws have equal further draws, and what is to be known of these is worked 
 Since the further draws stand first, it is worked out without calls that are nested.
 """
 
-from jointdraws.draws import Round
+from jointdraws.draws import Round, further_of
 
 
 class Shape:
@@ -19,32 +19,26 @@ def shapes_of(draw):
     """Return the list of the distinct draws within a draw, each behind its further draws."""
     shapes = []
     places = {}
-    done = []
-    waiting = [(draw, False)]
+    # The places of all objects that were met, of which several may be equal draws.
+    known = {}
+    waiting = [draw]
     while waiting:
-        here, entered = waiting.pop()
-        if isinstance(here, Round) and not entered:
-            waiting.append((here, True))
-            for further in reversed(here.draws):
-                waiting.append((further, False))
+        here = waiting[-1]
+        ahead = [further for further in further_of(here) if further.mark not in known]
+        if ahead:
+            waiting.append(ahead[0])
         else:
-            start = len(done) - _many_nexts(here)
-            nexts = tuple(done[start:])
-            del done[start:]
-            mark = _mark_of(here, nexts)
-            if mark not in places:
-                places[mark] = len(shapes)
+            waiting.pop()
+            nexts = tuple([known[further.mark] for further in further_of(here)])
+            key = _key_of(here, nexts)
+            if key not in places:
+                places[key] = len(shapes)
                 shapes.append(Shape(here, nexts))
-            done.append(places[mark])
+            known[here.mark] = places[key]
     return shapes
 
 
-def _many_nexts(draw):
-    """Return the number of the further draws."""
-    return len(draw.draws) if isinstance(draw, Round) else 0
-
-
-def _mark_of(draw, nexts):
+def _key_of(draw, nexts):
     """Return what two draws have in common exactly if they are equal, as a key for a dict."""
     if not isinstance(draw, Round):
         return (draw.name,)

@@ -33,22 +33,25 @@ def _best_acting(draw, liars, wish, stake):
 
 def table(draw, liars, wish, *, stake=0):
     """Return the dict from all spots that can be come to, to the worths there."""
+    game, told = _worths_of_states(draw, liars, wish, stake)
+    spots = game.spots()
+    return {spot: told[spots[spot]] for spot in spots}
+
+
+def is_table(draw, liars, wish, value, *, stake=0):
+    """Tell whether a value is a dict from all spots that can be come to, to numbers equal to the worths there."""
+    game, told = _worths_of_states(draw, liars, wish, stake)
+    return game.are_at_spots(told, value)
+
+
+def _worths_of_states(draw, liars, wish, stake):
+    """Return the game, and the list of the worths at its states, behind the errors of the functions for some liars."""
     need_liars(draw, liars)
     need_wish(draw, wish)
     need_stake(stake)
     game = Game(shapes_of(draw), liars)
     acting = Acting(game, wish, stake)
-    worths_there = [acting.worth_at(number) for number in range(game.many)]
-    spots = game.spots()
-    return {spot: worths_there[spots[spot]] for spot in spots}
-
-
-def is_table(draw, liars, wish, value, *, stake=0):
-    """Tell whether a value is a dict from all spots that can be come to, to numbers equal to the worths there."""
-    told = table(draw, liars, wish, stake=stake)
-    if not isinstance(value, dict) or len(value) != len(told):
-        return False
-    return all([spot in value and told[spot] == value[spot] for spot in told])
+    return game, [acting.worth_at(number) for number in range(game.many)]
 
 
 def worths(draw, wish, *, stake=0):
