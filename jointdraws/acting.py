@@ -34,7 +34,7 @@ class Acting:
         """Return the worth at a state."""
         return Ratio(self._values[number], self._game.states[number].unit * self._size)
 
-    def worth(self):
+    def best(self):
         """Return the worth of the draw."""
         return self.worth_at(0)
 
@@ -49,7 +49,7 @@ class Acting:
         """Return the chance with which an end with a name comes of what is done, multiplied by the unit."""
         return self._mean({name: 1}, 0)
 
-    def held(self):
+    def mean_held(self):
         """Return the mean of the number of holds of what is done."""
         return Ratio(self._mean({}, 1), self._game.states[0].unit)
 

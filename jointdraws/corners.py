@@ -84,4 +84,4 @@ def bounds_of(draw, liars, names):
     game = Game(shapes_of(draw), liars)
     seek = {name: 1 if name in names else 0 for name in draw.ends()}
     shun = {name: -seek[name] for name in seek}
-    return (-Acting(game, shun, 0).worth(), Acting(game, seek, 0).worth())
+    return (-Acting(game, shun, 0).best(), Acting(game, seek, 0).best())

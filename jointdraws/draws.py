@@ -190,7 +190,12 @@ def rows_of(counts):
 
 def _is_row(givers, value):
     """Tell whether a value is a row of the givers; without givers there is none."""
-    if not givers or not isinstance(value, tuple) or len(value) != len(givers):
+    return len(givers) > 0 and are_numbers_of(givers, value)
+
+
+def are_numbers_of(givers, value):
+    """Tell whether a value is a tuple of numbers that the givers can give, one for each."""
+    if not isinstance(value, tuple) or len(value) != len(givers):
         return False
     return all([is_whole(number) and 0 <= number < len(giver[1]) for giver, number in zip(givers, value)])
 

@@ -11,21 +11,32 @@ Chances are integers in here: a mean at a state is told multiplied by the unit o
 
 from math import lcm
 
-from jointdraws.draws import End, place_of, rows_of
+from jointdraws.draws import Round, place_of, rows_of
 from jointdraws.groups import all_sets
 
 
 class State:
-    """A draw that can be come to, with what can be done there; an end has no rows and no choices."""
+    """A draw that can be come to, with those who are out, and what can be done; an end has no rows and no choices.
 
-    def __init__(self, draw, weights, base, moves):
+    The honest givers and those liars who act are told in the order of the givers.
+    """
+
+    def __init__(self, draw, gone, liars):
+        givers = [giver for giver in draw.givers if giver[0] not in gone] if isinstance(draw, Round) else []
         self.draw = draw
-        self.weights = weights
-        self.base = base
-        self.moves = moves
-        self.unit = base
+        self.gone = gone
+        self.honest = [giver for giver in givers if giver[0] not in liars]
+        self.acting = [giver for giver in givers if giver[0] in liars]
+        self.weights = []
+        self.base = 1
+        self.moves = [[]]
+        self.unit = 1
         self.inner = 1
         self.factors = []
+
+    def seens(self):
+        """Return the ascending list of the rows that the honest givers can give."""
+        return rows_of([len(giver[1]) for giver in self.honest])
 
     def choices(self):
         """Return the list of all choices of all moves."""
@@ -33,18 +44,23 @@ class State:
 
 
 class Game:
-    """All states of a draw, given by its shapes, for some liars; the number of the first one is 0."""
+    """All states of a draw, given by its shapes, for some liars; the number of the first one is 0.
 
-    def __init__(self, shapes, liars):
+    Some people may be out at first, liars or not. Of others than the people who are still to give, it is known
+    only of those who give later whether they are out.
+    """
+
+    def __init__(self, shapes, liars, out=(), later=()):
         self._shapes = shapes
         self._liars = liars
+        self._later = later
         self._numbers = [{} for _ in shapes]
         self.many = 0
-        self._number_of(len(shapes) - 1, ())
+        self._number_of(len(shapes) - 1, out)
         self.states = {}
         for place in reversed(range(len(shapes))):
-            for out in list(self._numbers[place]):
-                self.states[self._numbers[place][out]] = self._state_of(place, out)
+            for gone in list(self._numbers[place]):
+                self.states[self._numbers[place][gone]] = self._state_of(place, gone)
         # Draws are met ahead of their further draws, and means are worked out the other way.
         self.order = list(self.states)[::-1]
         for number in self.order:
@@ -53,22 +69,21 @@ class Game:
     def _number_of(self, place, out):
         """Return the number of a state, a new one if it has not been met."""
         people = self._shapes[place].draw.people()
-        known = tuple([person for person in out if person in people])
+        known = tuple([person for person in out if person in people or person in self._later])
         if known not in self._numbers[place]:
             self._numbers[place][known] = self.many
             self.many = self.many + 1
         return self._numbers[place][known]
 
-    def _state_of(self, place, out):
+    def _state_of(self, place, gone):
         """Return the state of a draw with some people out."""
         shape = self._shapes[place]
-        if isinstance(shape.draw, End):
-            return State(shape.draw, [], 1, [[]])
-        weights, base = _weights_of([giver for giver in shape.draw.givers if giver[0] not in self._liars])
-        moves = []
-        for move in _moves_of(shape.draw, self._liars, out):
-            moves.append([[self._choice_of(shape, out, way) for way in ways] for ways in move])
-        return State(shape.draw, weights, base, moves)
+        state = State(shape.draw, gone, self._liars)
+        if isinstance(shape.draw, Round):
+            state.weights, state.base = _weights_of(state.honest)
+            moves = _moves_of(state)
+            state.moves = [[[self._choice_of(shape, gone, way) for way in ways] for ways in move] for move in moves]
+        return state
 
     def _choice_of(self, shape, out, way):
         """Return the choice for a way (given, held, row) to go on."""
@@ -90,7 +105,7 @@ class Game:
         waiting = [((), ())]
         while waiting:
             here = waiting.pop()
-            for spot, number in self._next_spots(here, found[here]):
+            for spot, number in self.next_spots(here, found[here]):
                 if spot not in found:
                     found[spot] = number
                     waiting.append(spot)
@@ -107,13 +122,13 @@ class Game:
             # There may be far more spots than keys: it ends with the first one that is no key.
             if here not in value or told[found[here]] != value[here]:
                 return False
-            for spot, number in self._next_spots(here, found[here]):
+            for spot, number in self.next_spots(here, found[here]):
                 if spot not in found:
                     found[spot] = number
                     waiting.append(spot)
         return len(found) == len(value)
 
-    def _next_spots(self, spot, number):
+    def next_spots(self, spot, number):
         """Return the list of the spots, with the numbers of their states, to which choices lead from a spot."""
         path, out = spot
         state = self.states[number]
@@ -142,19 +157,17 @@ def _weights_of(givers):
     return weights, base
 
 
-def _moves_of(draw, liars, out):
+def _moves_of(state):
     """Return the moves of a round, with ways (given, held, row) in the place of the choices."""
-    honest = [giver for giver in draw.givers if giver[0] not in liars]
-    acting = [giver for giver in draw.givers if giver[0] in liars and giver[0] not in out]
-    names = [giver[0] for giver in honest + acting]
-    rows = rows_of([len(giver[1]) for giver in honest])
-    givens = rows_of([len(giver[1]) for giver in acting])
+    draw = state.draw
+    names = [giver[0] for giver in state.honest + state.acting]
+    givens = rows_of([len(giver[1]) for giver in state.acting])
     helds = [()]
     if draw.kind == "held" or draw.kind == "last":
-        helds = sorted(all_sets(sorted([giver[0] for giver in acting])))
+        helds = sorted(all_sets(sorted([giver[0] for giver in state.acting])))
     if draw.kind == "open":
-        return [[_ways_of(draw, names, seen, givens, helds) for seen in rows]]
-    return [[_ways_of(draw, names, seen, [given], helds) for seen in rows] for given in givens]
+        return [[_ways_of(draw, names, seen, givens, helds) for seen in state.seens()]]
+    return [[_ways_of(draw, names, seen, [given], helds) for seen in state.seens()] for given in givens]
 
 
 def _ways_of(draw, names, seen, givens, helds):

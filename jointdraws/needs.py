@@ -20,6 +20,14 @@ def need_liars(draw, value):
         raise BadLiars(value)
 
 
+def need_leagues(draw, first, second):
+    """Raise BadLiars unless two values are lists of liars of a draw that have nobody in common."""
+    need_liars(draw, first)
+    need_liars(draw, second)
+    if any([person in first for person in second]):
+        raise BadLiars(second)
+
+
 def need_like_ends(one, other):
     """Raise UnlikeEnds unless two draws have the same names of ends."""
     if one.ends() != other.ends():

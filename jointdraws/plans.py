@@ -1,11 +1,11 @@
 """Plans of liars: their number, all of them, and what comes of one of them."""
 
-from jointdraws.checks import is_whole
 from jointdraws.errors import BadPlan, TooMany
 from jointdraws.games import Game
 from jointdraws.needs import need_liars, need_stake, need_wish
 from jointdraws.ratios import Ratio, total
 from jointdraws.shapes import shapes_of
+from jointdraws.walks import ways_of
 
 MOST_PLANS = 2000
 
@@ -56,7 +56,7 @@ def _all_plans(game):
 def is_plan(draw, liars, value):
     """Tell whether a value is a plan."""
     need_liars(draw, liars)
-    return _ways_of(Game(shapes_of(draw), liars), value) is not None
+    return ways_of(Game(shapes_of(draw), liars), value) is not None
 
 
 def runs(draw, liars, plan):
@@ -100,51 +100,7 @@ def _runs_to_ends(draw, liars, plan):
     """Return the runs of a plan with the names of their ends: tuples (path, name, held, chance)."""
     need_liars(draw, liars)
     game = Game(shapes_of(draw), liars)
-    ways = _ways_of(game, plan)
+    ways = ways_of(game, plan)
     if ways is None:
         raise BadPlan(plan)
-    unit = game.states[0].unit
-    return [(path, name, held, Ratio(part, unit)) for path, name, held, part in ways]
-
-
-def _ways_of(game, value):
-    """Return the runs of a plan, with chances that are multiplied by the unit; None if the value is no plan."""
-    ways = []
-    waiting = [(0, value, (), 0, 1)]
-    while waiting:
-        number, plan, path, holds, part = waiting.pop()
-        state = game.states[number]
-        if not isinstance(plan, tuple) or len(plan) != len(state.weights):
-            return None
-        if not plan:
-            ways.append((path, state.draw.name, holds, part))
-        else:
-            picks = _picks_of(state, plan)
-            if picks is None:
-                return None
-            factors = dict(state.factors)
-            steps = list(zip(state.weights, picks, plan))
-            for weight, (_, held, row, after), (_, _, then) in reversed(steps):
-                share = part * weight * factors[after]
-                waiting.append((after, then, path + (row,), holds + len(held), share))
-    return ways
-
-
-def _picks_of(state, plan):
-    """Return the choices that the items of a plan for a round tell; None if there are no such ones."""
-    if not all([_is_item(thing) for thing in plan]):
-        return None
-    for move in state.moves:
-        picks = []
-        for choices, (given, held, _) in zip(move, plan):
-            picks.extend([choice for choice in choices if choice[:2] == (given, held)])
-        if len(picks) == len(plan):
-            return picks
-    return None
-
-
-def _is_item(value):
-    """Tell whether a value has the form of an item of a plan: (given, held, then)."""
-    if not isinstance(value, tuple) or len(value) != 3:
-        return False
-    return isinstance(value[0], tuple) and all([is_whole(number) for number in value[0]])
+    return [(path, game.states[number].draw.name, held, part) for path, number, held, part in ways]

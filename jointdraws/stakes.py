@@ -18,8 +18,8 @@ class Line:
 
     def __init__(self, game, wish, stake):
         self._acting = Acting(game, wish, stake)
-        self.holds = self._acting.held()
-        self.mean = self._acting.worth() + self.holds * stake
+        self.holds = self._acting.mean_held()
+        self.mean = self._acting.best() + self.holds * stake
 
     def at(self, stake):
         """Return the score with a stake."""

@@ -10,12 +10,12 @@ from jointdraws.shapes import shapes_of
 
 def worth(draw, liars, wish, *, stake=0):
     """Return the greatest score of a plan."""
-    return _best_acting(draw, liars, wish, stake).worth()
+    return _best_acting(draw, liars, wish, stake).best()
 
 
 def gain(draw, liars, wish, *, stake=0):
     """Return what the worth is above the mean if all are honest."""
-    return _best_acting(draw, liars, wish, stake).worth() - honest_mean(draw, wish)
+    return _best_acting(draw, liars, wish, stake).best() - honest_mean(draw, wish)
 
 
 def best_plan(draw, liars, wish, *, stake=0):
@@ -78,4 +78,4 @@ def _worths_of_sets(draw, wish, stake, most):
     """Return the dict from the sets of at most so many people to the worths, in the order of the sets."""
     shapes = shapes_of(draw)
     sets = sets_up_to(draw.people(), most)
-    return {liars: Acting(Game(shapes, liars), wish, stake).worth() for liars in sets}
+    return {liars: Acting(Game(shapes, liars), wish, stake).best() for liars in sets}

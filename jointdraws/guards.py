@@ -1,0 +1,167 @@
+"""Guards: how a league acts at all its moments, by chances of its own, and what it makes sure of by this."""
+
+from jointdraws.bouts import Duel, Leagues
+from jointdraws.checks import are_some_of, is_list
+from jointdraws.draws import are_numbers_of, rows_of
+from jointdraws.errors import BadGuard
+from jointdraws.games import out_after
+from jointdraws.needs import need_leagues, need_stake, need_wish
+from jointdraws.ratios import Ratio, is_number, least, total
+
+
+def is_guard(draw, first, second, value):
+    """Tell whether a value is a guard of the first league."""
+    need_leagues(draw, first, second)
+    return _is_guard(Leagues(draw, first, second, 0), value)
+
+
+def made_sure(draw, first, second, wish, guard, *, stake=0):
+    """Return the least score that can come if the first league acts by a guard of it."""
+    need_leagues(draw, first, second)
+    need_wish(draw, wish)
+    return _least_score(Leagues(draw, first, second, stake), wish, guard, stake)
+
+
+def kept_to(draw, first, second, wish, guard, *, stake=0):
+    """Return the greatest score that can come if the second league acts by a guard of it."""
+    need_leagues(draw, first, second)
+    need_wish(draw, wish)
+    # The second league wants of the opposite numbers what the first one wants of these.
+    opposite = {name: -wish[name] for name in wish}
+    return -_least_score(Leagues(draw, second, first, stake), opposite, guard, stake)
+
+
+def _is_guard(leagues, value):
+    """Tell whether a value is a guard of the first league."""
+    if not isinstance(value, dict):
+        return False
+    spots = {((), ()): 0}
+    waiting = [((), ())]
+    many = 0
+    while waiting:
+        spot = waiting.pop()
+        state = leagues.game.states[spots[spot]]
+        for moment in _moments_at(leagues, spot, state):
+            # There may be far more moments than keys: it ends with the first one that is no key.
+            if moment not in value or not _is_mix(value[moment], moment[0], _acting_of(leagues, state)):
+                return False
+            many = many + 1
+        for further in _next_spots(leagues, spot, spots[spot]):
+            if further[0] not in spots:
+                spots[further[0]] = further[1]
+                waiting.append(further[0])
+    return many == len(value)
+
+
+def _next_spots(leagues, spot, number):
+    """Return the list of the spots behind a spot, with the numbers of their states, at which the first league matters.
+
+    Behind the others it has no moments, but there may be far too many spots to look at.
+    """
+    kept = []
+    for further, after in leagues.game.next_spots(spot, number):
+        people = leagues.game.states[after].draw.people()
+        if any([person in people and person not in further[1] for person in leagues.first]):
+            kept.append((further, after))
+    return kept
+
+
+def _acting_of(leagues, state):
+    """Return the givers of the first league who act in a round."""
+    return [giver for giver in state.acting if giver[0] in leagues.first]
+
+
+def _moments_at(leagues, spot, state):
+    """Return the list of the moments of the first league at a spot."""
+    path, out = spot
+    if not _acting_of(leagues, state):
+        return []
+    if state.draw.kind == "open":
+        return [("give", path, out, seen) for seen in state.seens()]
+    moments = [("give", path, out, ())]
+    if state.draw.kind != "sealed":
+        for numbers in _all_numbers(state):
+            moments.append(("hold", path, out, numbers))
+    return moments
+
+
+def _all_numbers(state):
+    """Return the list of the rows that the givers of a round can give, with the stand-in for those who are out."""
+    rows = [()]
+    for person, shares, stand_in in state.draw.givers:
+        numbers = [stand_in] if person in state.gone else list(range(len(shares)))
+        rows = [row + (number,) for row in rows for number in numbers]
+    return rows
+
+
+def _is_mix(value, word, acting):
+    """Tell whether a value is a list of tuples (choice, chance) for a moment with a word at which some givers act."""
+    if not is_list(value) or not all([isinstance(item, tuple) and len(item) == 2 for item in value]):
+        return False
+    for choice, _ in value:
+        if word == "give" and not are_numbers_of(acting, choice):
+            return False
+        if word == "hold" and not _is_hold(choice, [giver[0] for giver in acting]):
+            return False
+    choices = [choice for choice, _ in value]
+    if not all([choices[at] < choices[at + 1] for at in range(len(choices) - 1)]):
+        return False
+    return _are_chances([part for _, part in value])
+
+
+def _is_hold(value, people):
+    """Tell whether a value is an ascending tuple of some people."""
+    return isinstance(value, tuple) and are_some_of(value, people) and list(value) == sorted(value)
+
+
+def _are_chances(values):
+    """Tell whether values are numbers above 0 whose sum is 1."""
+    if not all([is_number(part) for part in values]):
+        return False
+    return all([Ratio(0).below(part) for part in values]) and total(values) == 1
+
+
+def _least_score(leagues, wish, guard, stake):
+    """Return the least score if the first league acts by a guard, behind the errors for the guard and the stake."""
+    if not _is_guard(leagues, guard):
+        raise BadGuard(guard)
+    need_stake(stake)
+    # Where the first league does not matter any more, all that counts is what the second one does.
+    told = Duel(leagues, wish).told()
+    spots = {((), ()): 0}
+    order = [((), ())]
+    at = 0
+    while at < len(order):
+        spot = order[at]
+        for further in _next_spots(leagues, spot, spots[spot]):
+            if further[0] not in spots:
+                spots[further[0]] = further[1]
+                order.append(further[0])
+        at = at + 1
+    values = {}
+    # Longer paths come later in the order, so what is behind a spot is known ahead of it.
+    for spot in reversed(order):
+        values[spot] = _value_by_guard(leagues, spot, spots[spot], guard, values, told)
+    return values[((), ())]
+
+
+def _value_by_guard(leagues, spot, number, guard, values, told):
+    """Return the least score from a spot on, by those behind it, where told has the values of states without them."""
+    path, out = spot
+    state = leagues.game.states[number]
+
+    def value_behind(choice):
+        further = (path + (choice[2],), out_after(state.draw, out, choice[1]))
+        return values[further] if further in values else told[choice[3]]
+
+    def settle(word, seen, met):
+        mix = {choice: part for choice, part in guard.get((word, path, out, seen), [((), 1)])}
+        scores = {}
+        for mine, yours, value in met:
+            if mine in mix:
+                scores[yours] = scores.get(yours, Ratio(0)) + value * mix[mine]
+        return least(list(scores.values()))
+
+    if not state.weights:
+        return told[number]
+    return leagues.value_at(state, value_behind, settle)
