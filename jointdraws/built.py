@@ -3,7 +3,7 @@
 from jointdraws.checks import has_just, is_name, is_whole
 from jointdraws.draws import KINDS, End, Round, count_paths, rounds_of
 from jointdraws.errors import BadCount, BadKind, BadNames, NoEnd, TooMany, Twice
-from jointdraws.shapes import shapes_of
+from jointdraws.shapes import rebuilt, same_end, same_round, shapes_of
 
 MOST_TIMES = 3
 MOST_PATHS = 4096
@@ -17,28 +17,7 @@ def replaced(draw, name, other):
     def new_end(end):
         return other if end.name == name else end
 
-    return _rebuilt(shapes_of(draw), new_end, _same_round)
-
-
-def _rebuilt(shapes, new_end, new_round):
-    """Return a draw, given by its shapes, in which functions make something else of ends and of rounds."""
-    done = []
-    for shape in shapes:
-        if isinstance(shape.draw, End):
-            done.append(new_end(shape.draw))
-        else:
-            done.append(new_round(shape.draw, [done[place] for place in shape.nexts]))
-    return done[-1]
-
-
-def _same_end(end):
-    """Return the end as it is."""
-    return end
-
-
-def _same_round(here, draws):
-    """Return the round with other further draws."""
-    return Round(here.kind, here.givers, draws)
+    return rebuilt(shapes_of(draw), new_end, same_round)
 
 
 def with_people(draw, names):
@@ -50,7 +29,7 @@ def with_people(draw, names):
     def new_round(old, draws):
         return Round(old.kind, [(names[person], shares, stand_in) for person, shares, stand_in in old.givers], draws)
 
-    return _rebuilt(shapes_of(draw), _same_end, new_round)
+    return rebuilt(shapes_of(draw), same_end, new_round)
 
 
 def _need_different(givers, names):
@@ -69,7 +48,7 @@ def with_ends(draw, names):
     def new_end(end):
         return End(names[end.name])
 
-    return _rebuilt(shapes_of(draw), new_end, _same_round)
+    return rebuilt(shapes_of(draw), new_end, same_round)
 
 
 def _need_new_names(names, value):
@@ -111,7 +90,7 @@ def _once_more(shapes, came, times, then):
         names = tuple(sorted(came + (end.name,)))
         return then[names] if len(names) < times else End(_most_often(names))
 
-    return _rebuilt(shapes, new_end, _same_round)
+    return rebuilt(shapes, new_end, same_round)
 
 
 def _most_often(names):
@@ -131,16 +110,16 @@ def of_kind(draw, kind):
     def new_round(here, draws):
         return Round(kind, here.givers, draws)
 
-    return _rebuilt(shapes_of(draw), _same_end, new_round)
+    return rebuilt(shapes_of(draw), same_end, new_round)
 
 
 def lean(draw):
     """Return the draw without the rounds all of whose further draws have become equal."""
-    return _rebuilt(shapes_of(draw), _same_end, _lean_round)
+    return rebuilt(shapes_of(draw), same_end, _lean_round)
 
 
 def _lean_round(here, draws):
     """Return the round with other further draws, or one of these if all of them are equal."""
     if all([further == draws[0] for further in draws]):
         return draws[0]
-    return _same_round(here, draws)
+    return same_round(here, draws)

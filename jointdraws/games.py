@@ -44,19 +44,22 @@ class State:
 
 
 class Game:
-    """All states of a draw, given by its shapes, for some liars; the number of the first one is 0.
+    """All states of a draw, given by its shapes, for some liars.
 
-    Some people may be out at first, liars or not. Of others than the people who are still to give, it is known
-    only of those who give later whether they are out.
+    Some people may be out at first, liars or not; the number of the state with the first ones of several such tuples
+    is 0. Of others than the people who are still to give, it is known only of those who give later whether they are
+    out.
     """
 
-    def __init__(self, shapes, liars, out=(), later=()):
+    def __init__(self, shapes, liars, outs=((),), later=()):
         self._shapes = shapes
         self._liars = liars
         self._later = later
         self._numbers = [{} for _ in shapes]
         self.many = 0
-        self._number_of(len(shapes) - 1, out)
+        self.starts = {}
+        for out in outs:
+            self.starts[out] = self._number_of(len(shapes) - 1, out)
         self.states = {}
         for place in reversed(range(len(shapes))):
             for gone in list(self._numbers[place]):

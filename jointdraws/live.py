@@ -189,7 +189,7 @@ class Live:
         need_liars(self._draw, liars)
         need_wish(self._draw, wish)
         need_stake(stake)
-        game = Game(shapes_of(self._stand.draw), liars, self._stand.absent)
+        game = Game(shapes_of(self._stand.draw), liars, [self._stand.absent])
         return Acting(game, wish, stake).best()
 
     def follow(self, liars, plan, numbers):

@@ -2,11 +2,12 @@
 
 from jointdraws.checks import are_some_of, has_just, is_whole
 from jointdraws.errors import (
-    BadCount, BadLiars, BadNames, BadNumber, BadPrices, BadStake, BadWish, TooMany, UnlikeEnds)
+    BadBudget, BadCount, BadLiars, BadNames, BadNumber, BadPrices, BadStake, BadWish, TooMany, UnlikeEnds)
 from jointdraws.honest import is_wish
 from jointdraws.ratios import as_ratio, is_number
 
 MOST_NAMES = 3
+MOST_BUDGET = 30
 
 
 def is_amount(value):
@@ -51,6 +52,12 @@ def need_stake(value):
     """Raise BadStake unless a value is a stake."""
     if not is_amount(value):
         raise BadStake(value)
+
+
+def need_budget(value):
+    """Raise BadBudget unless a value is a budget."""
+    if not is_whole(value) or not 0 <= value <= MOST_BUDGET:
+        raise BadBudget(value)
 
 
 def need_number(value):

@@ -4,7 +4,7 @@ Many draws have equal further draws, and what is to be known of these is worked 
 Since the further draws stand first, it is worked out without calls that are nested.
 """
 
-from jointdraws.draws import Round, further_of
+from jointdraws.draws import End, Round, further_of
 
 
 class Shape:
@@ -46,3 +46,24 @@ def _key_of(draw, nexts):
     for person, shares, stand_in in draw.givers:
         givers.append((person, tuple([(share.top, share.bottom) for share in shares]), stand_in))
     return (draw.kind, tuple(givers), nexts)
+
+
+def rebuilt(shapes, new_end, new_round):
+    """Return a draw, given by its shapes, in which functions make something else of ends and of rounds."""
+    done = []
+    for shape in shapes:
+        if isinstance(shape.draw, End):
+            done.append(new_end(shape.draw))
+        else:
+            done.append(new_round(shape.draw, [done[place] for place in shape.nexts]))
+    return done[-1]
+
+
+def same_end(end):
+    """Return the end as it is."""
+    return end
+
+
+def same_round(here, draws):
+    """Return the round with other further draws."""
+    return Round(here.kind, here.givers, draws)

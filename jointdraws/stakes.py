@@ -42,17 +42,17 @@ def pieces(draw, liars, wish):
     """Return the straight pieces of the worth: tuples (start, worth, slope), ascending by the start."""
     need_liars(draw, liars)
     need_wish(draw, wish)
-    return [(start, line.at(start), -line.holds) for start, line in _best_lines(draw, liars, wish)]
+    return [(start, line.at(start), -line.holds) for start, line in best_lines(draw, liars, wish)]
 
 
 def piece_plans(draw, liars, wish):
     """Return a plan for each of the pieces."""
     need_liars(draw, liars)
     need_wish(draw, wish)
-    return [line.plan() for _, line in _best_lines(draw, liars, wish)]
+    return [line.plan() for _, line in best_lines(draw, liars, wish)]
 
 
-def _best_lines(draw, liars, wish):
+def best_lines(draw, liars, wish):
     """Return the lines that the worth consists of, as tuples (start, line), ascending by the start."""
     kept = []
     for line in _found_lines(Game(shapes_of(draw), liars), wish):
@@ -156,8 +156,8 @@ def higher_stake(one, other, liars, wish):
     """Return a stake with which the worth of the one draw is above that of the other one, None if there is none."""
     need_common_liars(one, other, liars)
     need_wish(one, wish)
-    mine = _best_lines(one, liars, wish)
-    yours = _best_lines(other, liars, wish)
+    mine = best_lines(one, liars, wish)
+    yours = best_lines(other, liars, wish)
     # Between the starts of pieces the difference goes straight, and behind all of them it stays.
     for stake, _ in mine + yours:
         if _greatest_at(yours, stake).below(_greatest_at(mine, stake)):

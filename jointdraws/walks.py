@@ -4,20 +4,20 @@ from jointdraws.checks import is_whole
 from jointdraws.ratios import Ratio
 
 
-def ways_of(game, value):
+def ways_of(game, value, start=0):
     """Return the runs of a plan, as tuples (path, number of the state of the end, holds, chance), in their order.
 
-    If the value is not a plan, return None.
+    The plan is one for the state with the number of the start. If the value is not a plan, return None.
     """
     ways = []
-    waiting = [(0, value, (), 0, 1)]
+    waiting = [(start, value, (), 0, 1)]
     while waiting:
         number, plan, path, holds, part = waiting.pop()
         state = game.states[number]
         if not isinstance(plan, tuple) or len(plan) != len(state.weights):
             return None
         if not plan:
-            ways.append((path, number, holds, Ratio(part, game.states[0].unit)))
+            ways.append((path, number, holds, Ratio(part, game.states[start].unit)))
         else:
             picks = _picks_of(state, plan)
             if picks is None:

@@ -1,0 +1,89 @@
+"""Mixtures: what liars get if they choose among plans by chances, with so many holds in the mean."""
+
+from jointdraws.checks import is_list
+from jointdraws.errors import BadMixture
+from jointdraws.games import Game
+from jointdraws.needs import need_liars, need_limit, need_wish
+from jointdraws.ratios import Ratio, as_ratio, is_number, total
+from jointdraws.shapes import shapes_of
+from jointdraws.stakes import best_lines
+from jointdraws.walks import ways_of
+
+
+def mixture_score(draw, liars, mixture, wish):
+    """Return the mean of the wish, and the mean of the number of holds, with a mixture."""
+    need_liars(draw, liars)
+    if not _is_list_of_parts(mixture):
+        raise BadMixture(mixture)
+    game = Game(shapes_of(draw), liars)
+    ways = [ways_of(game, plan) for _, plan in mixture]
+    if None in ways or not _are_different([plan for _, plan in mixture]):
+        raise BadMixture(mixture)
+    need_wish(draw, wish)
+    mean = Ratio(0)
+    holds = Ratio(0)
+    for (part, _), some in zip(mixture, ways):
+        mean = mean + total([chance * wish[game.states[number].draw.name] for _, number, _, chance in some]) * part
+        holds = holds + total([chance * held for _, _, held, chance in some]) * part
+    return mean, holds
+
+
+def _is_list_of_parts(value):
+    """Tell whether a value is a list of tuples (chance, plan), whatever the plans, with chances that add up to 1."""
+    if not is_list(value) or not all([isinstance(part, tuple) and len(part) == 2 for part in value]):
+        return False
+    chances = [part[0] for part in value]
+    if not all([is_number(chance) for chance in chances]):
+        return False
+    return all([Ratio(0).below(chance) for chance in chances]) and total(chances) == 1
+
+
+def _are_different(plans):
+    """Tell whether no two of some plans are equal."""
+    for at, plan in enumerate(plans):
+        if any([_are_equal(plan, other) for other in plans[:at]]):
+            return False
+    return True
+
+
+def _are_equal(one, other):
+    """Tell whether two plans are equal; they may be deeper than Python itself compares."""
+    pairs = [(one, other)]
+    while pairs:
+        left, right = pairs.pop()
+        if [thing[:2] for thing in left] != [thing[:2] for thing in right]:
+            return False
+        for (_, _, then), (_, _, beside) in zip(left, right):
+            pairs.append((then, beside))
+    return True
+
+
+def mixture(draw, liars, wish, mean):
+    """Return a mixture of at most two plans that is best for the wish with so many holds in the mean."""
+    need_liars(draw, liars)
+    need_wish(draw, wish)
+    need_limit(mean)
+    parts = _best_parts(draw, liars, wish, mean)
+    return [(part, line.plan()) for part, line in parts]
+
+
+def worth_in_mean(draw, liars, wish, mean):
+    """Return the greatest mean of the wish with so many holds in the mean."""
+    need_liars(draw, liars)
+    need_wish(draw, wish)
+    need_limit(mean)
+    return total([line.mean * part for part, line in _best_parts(draw, liars, wish, mean)])
+
+
+def _best_parts(draw, liars, wish, mean):
+    """Return tuples (chance, line) of one or two lines of best plans that are best with so many holds in the mean."""
+    before = None
+    for _, line in best_lines(draw, liars, wish):
+        # Each line has less holds than the one before, and the last one has none, so the mean is kept at some time.
+        if not as_ratio(mean).below(line.holds):
+            if before is None or line.holds == mean:
+                return [(Ratio(1), line)]
+            part = (line.holds - mean).over(line.holds - before.holds)
+            return [(part, before), (1 - part, line)]
+        before = line
+    return []

@@ -1,0 +1,111 @@
+"""The best ways to act in a game if there may be no more than so many holds on the way.
+
+What is left of the number of holds is a part of what liars know at a state, so there is a layer of worths for each
+number that can be left, from 0 on; what is behind a hold is looked up in a lower layer.
+"""
+
+from math import lcm
+
+from jointdraws.ratios import Ratio, as_ratio
+
+
+class Saving:
+    """What liars get at the most in a game with a stake, layer by layer.
+
+    All is reckoned with integers: numbers are multiplied by one number, the size, and the means at a state by its
+    unit, too. All numbers for the ends of all layers are told at first.
+    """
+
+    def __init__(self, game, stake, numbers):
+        self._game = game
+        self._size = as_ratio(stake).bottom
+        for number in numbers:
+            self._size = lcm(self._size, as_ratio(number).bottom)
+        self._cost = (stake * Ratio(self._size)).top
+        self._layers = []
+        self._picks = []
+
+    def add_layer(self, rewards):
+        """Work out the next layer, by the dict from the numbers of the states of ends to what is got there."""
+        layer = [0] * self._game.many
+        picks = [[]] * self._game.many
+        self._layers.append(layer)
+        self._picks.append(picks)
+        for number in self._game.order:
+            state = self._game.states[number]
+            if state.weights:
+                layer[number], picks[number] = self._best_move(state)
+            else:
+                layer[number] = (rewards[number] * Ratio(self._size)).top
+
+    def _best_move(self, state):
+        """Return the greatest mean of a move in the last layer, and the list of its choices, one for each row."""
+        factors = dict(state.factors)
+        best = None
+        picks = []
+        for move in state.moves:
+            added = 0
+            chosen = []
+            for weight, choices in zip(state.weights, move):
+                value, choice = self._best_choice(choices, factors, self._cost * state.inner)
+                added = added + weight * value
+                chosen.append(choice)
+            if best is None or best < added:
+                best = added
+                picks = chosen
+        return best, picks
+
+    def _best_choice(self, choices, factors, price):
+        """Return the greatest value in the last layer of a choice, less the price for each hold, and this choice."""
+        best = None
+        pick = None
+        for choice in choices:
+            held = len(choice[1])
+            # In the first one of the choices nobody holds back, so there is always one.
+            if held < len(self._layers):
+                value = self._layers[-1 - held][choice[3]] * factors[choice[3]] - held * price
+                if best is None or best < value:
+                    best = value
+                    pick = choice
+        return best, pick
+
+    def worth_at(self, number, left):
+        """Return the worth at a state if so many holds are left; with more than there are layers for it is the same."""
+        place = min(left, len(self._layers) - 1)
+        return Ratio(self._layers[place][number], self._game.states[number].unit * self._size)
+
+    def plan(self, number, left):
+        """Return a plan with which the worth at a state comes if so many holds are left."""
+        told = []
+        for picks in self._picks[:left + 1]:
+            told.append([()] * self._game.many)
+            for here in self._game.order:
+                told[-1][here] = tuple([(given, held, told[-1 - len(held)][after])
+                                        for given, held, _, after in picks[here]])
+        return told[-1][number]
+
+
+def saving_within(game, wish, stake, budget):
+    """Return the best ways to act in a game within all budgets up to one."""
+    saving = Saving(game, stake, list(wish.values()))
+    for _ in range(min(budget, most_holds_in(game)) + 1):
+        saving.add_layer(rewards_of(game, wish))
+    return saving
+
+
+def rewards_of(game, wish):
+    """Return the dict from the numbers of the states of ends to what the wish has for them."""
+    rewards = {}
+    for number in game.order:
+        state = game.states[number]
+        if not state.weights:
+            rewards[number] = wish[state.draw.name]
+    return rewards
+
+
+def most_holds_in(game):
+    """Return the greatest number of holds on a way through a game."""
+    most = [0] * game.many
+    for number in game.order:
+        most[number] = max([len(choice[1]) + most[choice[3]] for choice in game.states[number].choices()], default=0)
+    return max(most)
