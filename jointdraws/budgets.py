@@ -6,28 +6,28 @@ from jointdraws.games import Game, out_after
 from jointdraws.needs import MOST_BUDGET, need_budget, need_liars, need_number, need_stake, need_wish
 from jointdraws.saving import Saving, rewards_of, saving_within
 from jointdraws.shapes import shapes_of
-from jointdraws.walks import ways_of
+from jointdraws.walks import walk_of
 
 
 def most_holds(draw, liars, plan):
     """Return the greatest number of holds in a run of a plan."""
     need_liars(draw, liars)
-    ways = ways_of(Game(shapes_of(draw), liars), plan)
-    if ways is None:
+    walk = walk_of(Game(shapes_of(draw), liars), plan)
+    if walk is None:
         raise BadPlan(plan)
-    return max([held for _, _, held, _ in ways])
+    return walk.most_held()
 
 
 def worth_within(draw, liars, wish, budget, *, stake=0):
     """Return the greatest score of all plans that keep a budget."""
     _, saving = _saving_within(draw, liars, wish, budget, stake)
-    return saving.worth_at(0, budget)
+    return saving.worth_left(0, budget)
 
 
 def plan_within(draw, liars, wish, budget, *, stake=0):
     """Return a plan that keeps a budget, with the greatest score of all these."""
     _, saving = _saving_within(draw, liars, wish, budget, stake)
-    return saving.plan(0, budget)
+    return saving.plan_left(0, budget)
 
 
 def _saving_within(draw, liars, wish, budget, stake):
@@ -68,7 +68,7 @@ def _worths_until_all(draw, liars, wish, stake):
     worths = []
     while len(worths) <= MOST_BUDGET and (not worths or worths[-1] != whole):
         saving.add_layer(rewards_of(game, wish))
-        worths.append(saving.worth_at(0, len(worths)))
+        worths.append(saving.worth_left(0, len(worths)))
     # Where budgets end ahead of the greatest worth, the last ones may be alike.
     while len(worths) > 1 and worths[-2] == worths[-1]:
         worths.pop()
@@ -86,7 +86,7 @@ def table_within(draw, liars, wish, budget, *, stake=0):
             if purse not in found:
                 found[purse] = number
                 waiting.append(purse)
-    return {purse: saving.worth_at(found[purse], purse[2]) for purse in found}
+    return {purse: saving.worth_left(found[purse], purse[2]) for purse in found}
 
 
 def is_table_within(draw, liars, wish, budget, value, *, stake=0):
@@ -99,7 +99,7 @@ def is_table_within(draw, liars, wish, budget, value, *, stake=0):
     while waiting:
         here = waiting.pop()
         # There may be far more purses than keys: it ends with the first one that is no key.
-        if here not in value or saving.worth_at(found[here], here[2]) != value[here]:
+        if here not in value or saving.worth_left(found[here], here[2]) != value[here]:
             return False
         for purse, number in _next_purses(game, here, found[here]):
             if purse not in found:

@@ -11,7 +11,7 @@ from jointdraws.errors import BadCount, BadPath, BadPlan, NoPerson, NothingToUnd
 from jointdraws.games import Game, out_after
 from jointdraws.needs import need_liars, need_stake, need_wish
 from jointdraws.shapes import shapes_of
-from jointdraws.walks import ways_of
+from jointdraws.walks import walk_of
 
 
 class Standing:
@@ -197,7 +197,7 @@ class Live:
         if self._stand.deeds > 0:
             raise NotNow(self.waiting())
         need_liars(self._draw, liars)
-        if ways_of(Game(shapes_of(self._draw), liars), plan) is None:
+        if walk_of(Game(shapes_of(self._draw), liars), plan) is None:
             raise BadPlan(plan)
         # If the numbers do not fit, nothing must have been done.
         ahead = Live(self._draw)

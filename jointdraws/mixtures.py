@@ -7,7 +7,7 @@ from jointdraws.needs import need_liars, need_limit, need_wish
 from jointdraws.ratios import Ratio, as_ratio, is_number, total
 from jointdraws.shapes import shapes_of
 from jointdraws.stakes import best_lines
-from jointdraws.walks import ways_of
+from jointdraws.walks import walk_of
 
 
 def mixture_score(draw, liars, mixture, wish):
@@ -16,16 +16,17 @@ def mixture_score(draw, liars, mixture, wish):
     if not _is_list_of_parts(mixture):
         raise BadMixture(mixture)
     game = Game(shapes_of(draw), liars)
-    ways = [ways_of(game, plan) for _, plan in mixture]
-    if None in ways or not _are_different([plan for _, plan in mixture]):
+    walks = [walk_of(game, plan) for _, plan in mixture]
+    if None in walks or not _are_different(walks):
         raise BadMixture(mixture)
     need_wish(draw, wish)
-    mean = Ratio(0)
-    holds = Ratio(0)
-    for (part, _), some in zip(mixture, ways):
-        mean = mean + total([chance * wish[game.states[number].draw.name] for _, number, _, chance in some]) * part
-        holds = holds + total([chance * held for _, _, held, chance in some]) * part
-    return mean, holds
+    means = []
+    holds = []
+    for (part, _), walk in zip(mixture, walks):
+        shares = walk.shares(draw.ends())
+        means.append(total([shares[name] * wish[name] for name in shares]) * part)
+        holds.append(walk.mean_held() * part)
+    return total(means), total(holds)
 
 
 def _is_list_of_parts(value):
@@ -38,24 +39,11 @@ def _is_list_of_parts(value):
     return all([Ratio(0).below(chance) for chance in chances]) and total(chances) == 1
 
 
-def _are_different(plans):
-    """Tell whether no two of some plans are equal."""
-    for at, plan in enumerate(plans):
-        if any([_are_equal(plan, other) for other in plans[:at]]):
-            return False
-    return True
-
-
-def _are_equal(one, other):
-    """Tell whether two plans are equal; they may be deeper than Python itself compares."""
-    pairs = [(one, other)]
-    while pairs:
-        left, right = pairs.pop()
-        if [thing[:2] for thing in left] != [thing[:2] for thing in right]:
-            return False
-        for (_, _, then), (_, _, beside) in zip(left, right):
-            pairs.append((then, beside))
-    return True
+def _are_different(walks):
+    """Tell whether no two of the plans of some walks through a game are equal."""
+    known = {}
+    numbers = [walk.number_in(known) for walk in walks]
+    return len(set(numbers)) == len(numbers)
 
 
 def mixture(draw, liars, wish, mean):

@@ -3,9 +3,9 @@
 from jointdraws.errors import BadPlan, TooMany
 from jointdraws.games import Game
 from jointdraws.needs import need_liars, need_stake, need_wish
-from jointdraws.ratios import Ratio, total
+from jointdraws.ratios import total
 from jointdraws.shapes import shapes_of
-from jointdraws.walks import ways_of
+from jointdraws.walks import walk_of
 
 MOST_PLANS = 2000
 
@@ -56,51 +56,37 @@ def _all_plans(game):
 def is_plan(draw, liars, value):
     """Tell whether a value is a plan."""
     need_liars(draw, liars)
-    return ways_of(Game(shapes_of(draw), liars), value) is not None
+    return walk_of(Game(shapes_of(draw), liars), value) is not None
 
 
 def runs(draw, liars, plan):
     """Return the runs of a plan: tuples (path, held, chance), in the order of its items."""
-    return [(path, held, part) for path, _, held, part in _runs_to_ends(draw, liars, plan)]
+    return _walk(draw, liars, plan).runs()
 
 
 def plan_shares(draw, liars, plan):
     """Return the dict from the names of all ends to their chances with a plan."""
-    return _shares_of(draw, _runs_to_ends(draw, liars, plan))
+    return _walk(draw, liars, plan).shares(draw.ends())
 
 
 def held_mean(draw, liars, plan):
     """Return the mean of the number of holds with a plan."""
-    return _held_of(_runs_to_ends(draw, liars, plan))
+    return _walk(draw, liars, plan).mean_held()
 
 
 def score(draw, liars, plan, wish, *, stake=0):
     """Return the score of a plan: the mean of the wish, less the stake for each hold."""
-    ways = _runs_to_ends(draw, liars, plan)
+    walk = _walk(draw, liars, plan)
     need_wish(draw, wish)
     need_stake(stake)
-    shares = _shares_of(draw, ways)
-    return total([shares[name] * wish[name] for name in shares]) - _held_of(ways) * stake
+    shares = walk.shares(draw.ends())
+    return total([shares[name] * wish[name] for name in shares]) - walk.mean_held() * stake
 
 
-def _shares_of(draw, ways):
-    """Return the dict from the names of all ends to their chances."""
-    shares = {name: Ratio(0) for name in draw.ends()}
-    for _, name, _, part in ways:
-        shares[name] = shares[name] + part
-    return shares
-
-
-def _held_of(ways):
-    """Return the mean of the number of holds."""
-    return total([part * held for _, _, held, part in ways])
-
-
-def _runs_to_ends(draw, liars, plan):
-    """Return the runs of a plan with the names of their ends: tuples (path, name, held, chance)."""
+def _walk(draw, liars, plan):
+    """Return the walk of a plan, behind the errors of the functions for one."""
     need_liars(draw, liars)
-    game = Game(shapes_of(draw), liars)
-    ways = ways_of(game, plan)
-    if ways is None:
+    walk = walk_of(Game(shapes_of(draw), liars), plan)
+    if walk is None:
         raise BadPlan(plan)
-    return [(path, game.states[number].draw.name, held, part) for path, number, held, part in ways]
+    return walk

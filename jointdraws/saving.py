@@ -69,12 +69,12 @@ class Saving:
                     pick = choice
         return best, pick
 
-    def worth_at(self, number, left):
+    def worth_left(self, number, left):
         """Return the worth at a state if so many holds are left; with more than there are layers for it is the same."""
         place = min(left, len(self._layers) - 1)
         return Ratio(self._layers[place][number], self._game.states[number].unit * self._size)
 
-    def plan(self, number, left):
+    def plan_left(self, number, left):
         """Return a plan with which the worth at a state comes if so many holds are left."""
         told = []
         for picks in self._picks[:left + 1]:

@@ -10,7 +10,7 @@ from jointdraws.ratios import total
 from jointdraws.saving import saving_within
 from jointdraws.shapes import rebuilt, same_round, shapes_of
 from jointdraws.stands import Prospects, Season
-from jointdraws.walks import ways_of
+from jointdraws.walks import walk_of
 
 MOST_DRAWS = 4
 MOST_PATHS = 4096
@@ -52,7 +52,7 @@ def season_plans(season, liars, budget, *, stake=0):
     _need_all(season, liars, budget, stake)
     told = Season(season, liars)
     prospects = Prospects(told, budget, stake)
-    return {stand: prospects.plan(stand) for stand in told.stands(budget)}
+    return {stand: prospects.plan_from(stand) for stand in told.stands(budget)}
 
 
 def season_score(season, liars, budget, plans, *, stake=0):
@@ -64,24 +64,25 @@ def season_score(season, liars, budget, plans, *, stake=0):
     stands = told.stands(budget)
     if not has_just(plans, stands):
         raise BadPlans(plans)
-    ways = {}
+    walks = {}
     for stand in stands:
         place, out, left = stand
-        ways[stand] = ways_of(told.games[place], plans[stand], told.games[place].starts[out])
-        if ways[stand] is None or max([held for _, _, held, _ in ways[stand]]) > left:
+        walk = walk_of(told.games[place], plans[stand], told.games[place].starts[out])
+        if walk is None or walk.most_held() > left:
             raise BadPlans(plans)
+        walks[stand] = walk
     need_stake(stake)
-    return _score_of(told, stands, ways, stake)
+    return _score_of(told, stands, walks, stake)
 
 
-def _score_of(season, stands, ways, stake):
-    """Return the mean of what is got from the first stand on, if the runs of the plans for all stands are told."""
+def _score_of(season, stands, walks, stake):
+    """Return the mean of what is got from the first stand on, if the walks of the plans for all stands are told."""
     scores = {}
     # The stands of later draws come later in their list.
     for stand in reversed(stands):
         place, _, left = stand
         parts = []
-        for _, number, held, chance in ways[stand]:
+        for number, held, chance in walks[stand].ends():
             state = season.games[place].states[number]
             then = scores.get((place + 1, state.gone, left - held), 0)
             parts.append((season.wishes[place][state.draw.name] - held * stake + then) * chance)
@@ -136,7 +137,7 @@ def split(season, liars, budget, *, stake=0):
     worths = []
     for draw, wish in season:
         saving = saving_within(Game(shapes_of(draw), liars), wish, stake, budget)
-        worths.append([saving.worth_at(0, part) for part in range(budget + 1)])
+        worths.append([saving.worth_left(0, part) for part in range(budget + 1)])
     best = None
     for budgets in _dealt_out(budget, len(season)):
         worth = total([some[part] for some, part in zip(worths, budgets)])

@@ -83,14 +83,14 @@ class Prospects:
         reward = as_ratio(self._season.wishes[place][state.draw.name])
         if not self._savings:
             return reward
-        return reward + self._savings[0].worth_at(self._season.games[place + 1].starts[state.gone], left)
+        return reward + self._savings[0].worth_left(self._season.games[place + 1].starts[state.gone], left)
 
     def worth_from(self, stand):
         """Return what is got from a stand on."""
         place, out, left = stand
-        return self._savings[place].worth_at(self._season.games[place].starts[out], left)
+        return self._savings[place].worth_left(self._season.games[place].starts[out], left)
 
-    def plan(self, stand):
+    def plan_from(self, stand):
         """Return the plan for the draw of a stand."""
         place, out, left = stand
-        return self._savings[place].plan(self._season.games[place].starts[out], left)
+        return self._savings[place].plan_left(self._season.games[place].starts[out], left)

@@ -4,19 +4,23 @@ import random
 import unittest
 from fractions import Fraction
 
+from jointdraws.budgets import most_holds, plan_within, worth_within
 from jointdraws.built import lean, of_kind, repeated, replaced, with_ends, with_people
 from jointdraws.cards import card
 from jointdraws.corners import barring_wish, bounds_of, can_reach, corners, mix, parting_wish
 from jointdraws.draws import End, Round, count_paths, read_draw
-from jointdraws.errors import TooMany, Twice
+from jointdraws.errors import BadMixture, TooMany, Twice
 from jointdraws.force import (
     alike_in_force, cheapest_force, forces, forcing_sets, is_strategy, parting_force, strategy)
 from jointdraws.honest import (
     chance, honest_mean, honest_shares, is_even, is_turns, numbers_back, numbers_given, told_back)
+from jointdraws.live import Live
 from jointdraws.matters import matters, parts_of_gain, who_matters
+from jointdraws.mixtures import mixture, mixture_score, worth_in_mean
 from jointdraws.plans import count_plans, held_mean, is_plan, plan_shares, runs, score
 from jointdraws.ratios import Ratio, total
-from jointdraws.stakes import higher_stake, least_stake, pieces, safe_stake, same_worths
+from jointdraws.seasons import season_plans, season_score, season_worth
+from jointdraws.stakes import higher_stake, least_stake, piece_plans, pieces, safe_stake, same_worths
 from jointdraws.worths import best_plan, gain, greatest_worth, is_table, worth, worths
 from tests.samples import FAIR, fraction
 
@@ -150,6 +154,56 @@ class LiarsTest(unittest.TestCase):
         self.assertEqual(total([part for part, _ in mix(draw, ["ann"], shares)]), 1)
         self.assertEqual(worth(draw, [], barring_wish(draw, [], shares)).below(1), True)
         self.assertIsNone(parting_wish(draw, turns(), ["ann"]))
+
+
+class PlansTest(unittest.TestCase):
+    """Plans with far more items than different parts."""
+
+    def draw(self):
+        return within_itself("held(ann 1/2 1/2 *0, bob 1/3 2/3 *0; a, b, a, c)", "a", 5)
+
+    def test_plans_of_the_package(self):
+        draw = self.draw()
+        wish = {"a": 1, "b": 0, "c": 2}
+        for liars in ([], ["ann"], ["bob"], ["bob", "ann"]):
+            for stake in (0, Ratio(1, 9)):
+                plan = best_plan(draw, liars, wish, stake=stake)
+                self.assertIs(is_plan(draw, liars, plan), True)
+                self.assertEqual(score(draw, liars, plan, wish, stake=stake), worth(draw, liars, wish, stake=stake))
+                self.assertEqual(score(draw, liars, plan, wish) - held_mean(draw, liars, plan) * stake, score(draw, liars, plan, wish, stake=stake))
+            for (start, number, slope), plan in zip(pieces(draw, liars, wish), piece_plans(draw, liars, wish)):
+                self.assertEqual([score(draw, liars, plan, wish, stake=start), -held_mean(draw, liars, plan)], [number, slope])
+            for shares, plan in corners(draw, liars):
+                self.assertEqual(tuple(plan_shares(draw, liars, plan).values()), shares)
+            for budget in (0, 2, 30):
+                plan = plan_within(draw, liars, wish, budget)
+                self.assertLessEqual(most_holds(draw, liars, plan), budget)
+                self.assertEqual(score(draw, liars, plan, wish), worth_within(draw, liars, wish, budget))
+            mixed = mixture(draw, liars, wish, Ratio(1, 3))
+            self.assertEqual(mixture_score(draw, liars, mixed, wish)[0], worth_in_mean(draw, liars, wish, Ratio(1, 3)))
+            season = [(draw, wish), (read_draw("last(ann 1/2 1/2 *0, bob 1/2 1/2 *0; no, yes, yes, no)"), {"no": 0, "yes": 1})]
+            told = season_plans(season, liars, 3)
+            self.assertEqual(season_score(season, liars, 3, told), season_worth(season, liars, 3))
+
+    def test_wrong_plans(self):
+        draw = self.draw()
+        plan = best_plan(draw, [], {"a": 1, "b": 0, "c": 2})
+        for value in (plan + plan[:1], plan[:3], (plan[0], ((), (), plan)) + plan[2:], (plan[0], ((), ("bob",), plan[1][2])) + plan[2:],
+                      plan[:3] + (((), (), None),), plan[:3] + (((1,), (), ()),)):
+            self.assertIs(is_plan(draw, [], value), False)
+
+    def test_different_plans_of_mixtures(self):
+        draw = self.draw()
+        plan = best_plan(draw, [], {"a": 1, "b": 0, "c": 2})
+        mixed = [(Ratio(1, 2), plan), (Ratio(1, 2), best_plan(draw, [], {"a": 0, "b": 7, "c": 2}))]
+        with self.assertRaises(BadMixture):
+            mixture_score(draw, [], mixed, {"a": 1, "b": 0, "c": 2})
+
+    def test_following_a_plan(self):
+        draw = self.draw()
+        live = Live(draw)
+        live.follow(["bob"], best_plan(draw, ["bob"], {"a": 0, "b": 0, "c": 1}), [(0,)] * 31 + [(1,)])
+        self.assertEqual((live.end(), len(live.path())), ("c", 32))
 
 
 class ForceTest(unittest.TestCase):
