@@ -19,7 +19,7 @@ MOST_PATHS = 4096
 def season_worth(season, liars, budget, *, stake=0):
     """Return the greatest mean of what liars get in a season within a budget."""
     _need_all(season, liars, budget, stake)
-    return Prospects(Season(season, liars), budget, stake).worth_from((0, (), budget))
+    return Prospects(Season(season, liars, budget, False), stake).worth_from((0, (), budget))
 
 
 def _need_all(season, liars, budget, stake):
@@ -50,9 +50,9 @@ def _need_liars(season, value):
 def season_plans(season, liars, budget, *, stake=0):
     """Return plans for a season by which liars get the most, a plan for each stand."""
     _need_all(season, liars, budget, stake)
-    told = Season(season, liars)
-    prospects = Prospects(told, budget, stake)
-    return {stand: prospects.plan_from(stand) for stand in told.stands(budget)}
+    told = Season(season, liars, budget, True)
+    prospects = Prospects(told, stake)
+    return {stand: prospects.plan_from(stand) for stand in told.stands()}
 
 
 def season_score(season, liars, budget, plans, *, stake=0):
@@ -60,8 +60,8 @@ def season_score(season, liars, budget, plans, *, stake=0):
     _need_season(season)
     _need_liars(season, liars)
     need_budget(budget)
-    told = Season(season, liars)
-    stands = told.stands(budget)
+    told = Season(season, liars, budget, True)
+    stands = told.stands()
     if not has_just(plans, stands):
         raise BadPlans(plans)
     walks = {}

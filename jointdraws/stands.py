@@ -10,22 +10,29 @@ from jointdraws.shapes import shapes_of
 
 
 class Season:
-    """A season for some liars: for each of its draws the wish, and the game for all who can be out at its beginning."""
+    """A season for some liars and a budget: for each draw the wish, and the game for all who can be out at first.
 
-    def __init__(self, season, liars):
+    Either all liars who are out are told, or only those who are people of the draw or of later ones.
+    """
+
+    def __init__(self, season, liars, budget, all_told):
+        self.budget = budget
         self.wishes = [wish for _, wish in season]
         self.games = []
         outs = [()]
-        for draw, _ in season:
-            # All who are out may matter for later draws, so none of them is left out of account.
-            game = Game(shapes_of(draw), liars, outs, liars)
+        for place, (draw, _) in enumerate(season):
+            later = liars if all_told else [person for further, _ in season[place + 1:] for person in further.people()]
+            game = Game(shapes_of(draw), liars, outs, later)
             self.games.append(game)
             ahead = {game.states[number].gone: True for number in game.order}
-            outs = list(ahead)
+            outs = [out for out in ahead if len(out) <= budget]
 
-    def stands(self, budget):
-        """Return the list of all stands that can be come to within a budget, those of earlier draws first."""
-        found = [(0, (), budget)]
+    def stands(self):
+        """Return the list of all stands that can be come to within the budget, those of earlier draws first.
+
+        All liars who are out must be told.
+        """
+        found = [(0, (), self.budget)]
         last = found
         for game in self.games[:-1]:
             reached = {}
@@ -58,13 +65,13 @@ def _ends_reached(game, start, budget):
 class Prospects:
     """What liars get at the most in a season from each stand on."""
 
-    def __init__(self, season, budget, stake):
+    def __init__(self, season, stake):
         self._season = season
         self._stake = stake
         self._savings = []
         most = 0
         for game in reversed(season.games):
-            most = min(budget, most + most_holds_in(game))
+            most = min(season.budget, most + most_holds_in(game))
             self._savings.insert(0, self._saving_in(len(season.games) - 1 - len(self._savings), most))
 
     def _saving_in(self, place, most):
@@ -81,9 +88,11 @@ class Prospects:
     def _reward_at(self, place, state, left):
         """Return what is got at an end of the draw at a place, with what can be got behind it."""
         reward = as_ratio(self._season.wishes[place][state.draw.name])
-        if not self._savings:
+        starts = self._season.games[place + 1].starts if self._savings else {}
+        # If more people are out than the budget has holds, nothing leads there, and it does not matter what is got.
+        if state.gone not in starts:
             return reward
-        return reward + self._savings[0].worth_left(self._season.games[place + 1].starts[state.gone], left)
+        return reward + self._savings[0].worth_left(starts[state.gone], left)
 
     def worth_from(self, stand):
         """Return what is got from a stand on."""

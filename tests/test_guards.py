@@ -35,6 +35,13 @@ class MadeSureTest(unittest.TestCase):
             self.assertFalse(told.below(least) or most.below(told))
             self.assertTrue(isinstance(least, Ratio) and isinstance(most, Ratio))
 
+    def test_several_rounds(self):
+        source = random.Random(147)
+        for draw, first, second, wish, stake in list(some_duels(148, 25, depth=3, people=["ann", "bob", "cid"], most=1))[13:]:
+            mine = random_guard(source, draw, first, second)
+            self.assertEqual(fraction(made_sure(draw, first, second, wish, mine, stake=stake)),
+                             least_by_guard(draw, first, second, wish, stake, mine))
+
     def test_nobody_in_a_league(self):
         for draw, first, _, wish, stake in some_duels(145, 15):
             told = duel(draw, first, [], wish, stake=stake)
