@@ -144,7 +144,7 @@ class Live:
         if person in stand.absent or person in stand.holders:
             raise NotNow(person)
         after = stand.later("hold")
-        after.holders = tuple(sorted(stand.holders + (person,)))
+        after.holders = stand.holders + (person,)
         after.holds = stand.holds + 1
         self._stand = after
 

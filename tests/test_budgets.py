@@ -94,6 +94,21 @@ class WorthsTest(unittest.TestCase):
         self.assertEqual(worth_within(draw, ["bob"], wished, 1), 41)
 
 
+    def test_more_holds_than_budgets_and_no_use_of_the_last_one(self):
+        draw = End("yes")
+        three = [("ann", FAIR, 0), ("bob", FAIR, 0), ("cid", FAIR, 0), ("dan", FAIR, 0)]
+        for givers in [three] * 9 + [three[1:]] * 2:
+            # All liars have to hold back if dan gives 1.
+            rows = Round("held", givers, [End("no")] * 2 ** len(givers)).rows()
+            won = [row for row in rows if len(set(row[:-1])) == 1 and row[0] != row[-1]]
+            draw = Round("held", givers, [draw if row in won else End("no") for row in rows])
+        told = worths_within(draw, ["ann", "bob", "cid"], WIN)
+        # 29 is 3 * 9 + 2, and 31 is 3 * 9 + 2 * 2, but there is no way to need 30 holds.
+        self.assertEqual(len(told), 30)
+        self.assertEqual(worth_within(draw, ["ann", "bob", "cid"], WIN, 30), told[29])
+        self.assertTrue(told[28].below(told[29]) and told[29].below(worth(draw, ["ann", "bob", "cid"], WIN)))
+
+
 class TablesTest(unittest.TestCase):
     def test_all_purses(self):
         source = random.Random(164)

@@ -105,6 +105,7 @@ class ErrorsTest(unittest.TestCase):
         wrong = [[], (), [(half, SLY)], [(half, SLY), (half, SLY)], [(half, SLY), (half, tuple(list(SLY)))], [(1, SLY), (0, PLAIN)],
                  [(2, SLY), (-1, PLAIN)], [(True, SLY)], [("1", SLY)], [(None, SLY)], [(1, list(SLY))], [(1, ())], [(1, None)], [[1, SLY]],
                  [(1, SLY, 0)], [(1,)], {1: SLY}, (1, SLY), [(half, SLY), (half, (((True,), (), ()), ((1,), (), ())))],
+                 [(half, SLY), (True, PLAIN)], [(half, SLY), ("1/2", PLAIN)], [(half, SLY), (half, PLAIN), (None, PLAIN)],
                  [(half, SLY), (Ratio(1, 3), PLAIN)], [(1, (((1,), (), ()), ((0,), ("bob",), ())))], [None], SLY, [(SLY, 1)]]
         for value in wrong + wrong_values():
             assert_raises(self, BadMixture, "given", value, lambda: mixture_score(unlike(), ["bob"], value, None))

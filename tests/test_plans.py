@@ -141,6 +141,13 @@ class IsPlanTest(unittest.TestCase):
 
     def test_ends(self):
         self.assertIs(is_plan(End("no"), [], ()), True)
+        # Equal parts for the same draw, of which only one is made of integers.
+        twice = read_draw("open(cid 1/2 1/2 *0; held(ann 1/2 1/2 *0; no, yes), held(ann 1/2 1/2 *0; no, yes))")
+        good = (((1,), (), ()),)
+        self.assertIs(is_plan(twice, ["ann"], (((), (), good), ((), (), good))), True)
+        for wrong in ((((True,), (), ()),), (((Ratio(1),), (), ()),)):
+            self.assertIs(is_plan(twice, ["ann"], (((), (), good), ((), (), wrong))), False)
+            self.assertIs(is_plan(twice, ["ann"], (((), (), wrong), ((), (), good))), False)
         for value in wrong_values():
             self.assertIs(is_plan(End("no"), (), value), value == () and isinstance(value, tuple))
 
