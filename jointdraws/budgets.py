@@ -4,6 +4,7 @@ from jointdraws.acting import Acting
 from jointdraws.errors import BadPlan
 from jointdraws.games import Game, out_after
 from jointdraws.needs import MOST_BUDGET, need_budget, need_liars, need_number, need_stake, need_wish
+from jointdraws.reaching import many_fitting, reached_from
 from jointdraws.saving import Saving, rewards_of, saving_within
 from jointdraws.shapes import shapes_of
 from jointdraws.walks import walk_of
@@ -78,39 +79,29 @@ def _worths_until_all(draw, liars, wish, stake):
 def table_within(draw, liars, wish, budget, *, stake=0):
     """Return the dict from all purses that can be come to within a budget, to the worths there."""
     game, saving = _saving_within(draw, liars, wish, budget, stake)
-    found = {((), (), budget): 0}
-    waiting = [((), (), budget)]
-    while waiting:
-        here = waiting.pop()
-        for purse, number in _next_purses(game, here, found[here]):
-            if purse not in found:
-                found[purse] = number
-                waiting.append(purse)
-    return {purse: saving.worth_left(found[purse], purse[2]) for purse in found}
+    purses = reached_from(((), (), budget), _next_purses_in(game))
+    return {purse: saving.worth_left(purses[purse], purse[2]) for purse in purses}
 
 
 def is_table_within(draw, liars, wish, budget, value, *, stake=0):
     """Tell whether a value is a dict from just all purses within a budget, to numbers equal to the worths there."""
     game, saving = _saving_within(draw, liars, wish, budget, stake)
+
+    def fits(purse, number):
+        return purse in value and saving.worth_left(number, purse[2]) == value[purse]
+
     if not isinstance(value, dict):
         return False
-    found = {((), (), budget): 0}
-    waiting = [((), (), budget)]
-    while waiting:
-        here = waiting.pop()
-        # There may be far more purses than keys: it ends with the first one that is no key.
-        if here not in value or saving.worth_left(found[here], here[2]) != value[here]:
-            return False
-        for purse, number in _next_purses(game, here, found[here]):
-            if purse not in found:
-                found[purse] = number
-                waiting.append(purse)
-    return len(found) == len(value)
+    return many_fitting(((), (), budget), _next_purses_in(game), fits) == len(value)
 
 
-def _next_purses(game, purse, number):
-    """Return the list of the purses, with the numbers of their states, to which choices lead from a purse."""
-    path, out, left = purse
-    state = game.states[number]
-    return [((path + (row,), out_after(state.draw, out, held), left - len(held)), after)
-            for _, held, row, after in state.choices() if len(held) <= left]
+def _next_purses_in(game):
+    """Return the function that tells to which purses the choices at a purse lead, with the numbers of their states."""
+
+    def next_purses(purse, number):
+        path, out, left = purse
+        state = game.states[number]
+        return [((path + (row,), out_after(state.draw, out, held), left - len(held)), after)
+                for _, held, row, after in state.choices() if len(held) <= left]
+
+    return next_purses

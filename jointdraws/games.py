@@ -13,6 +13,7 @@ from math import lcm
 
 from jointdraws.draws import Round, place_of, rows_of
 from jointdraws.groups import all_sets
+from jointdraws.reaching import many_fitting, reached_from
 
 
 class State:
@@ -104,32 +105,15 @@ class Game:
 
     def spots(self):
         """Return the dict from all spots that can be come to, by any choices, to the numbers of their states."""
-        found = {((), ()): 0}
-        waiting = [((), ())]
-        while waiting:
-            here = waiting.pop()
-            for spot, number in self.next_spots(here, found[here]):
-                if spot not in found:
-                    found[spot] = number
-                    waiting.append(spot)
-        return found
+        return reached_from(((), ()), self.next_spots)
 
     def are_at_spots(self, told, value):
         """Tell whether a value is a dict from just all spots to numbers equal to what is told of their states."""
-        if not isinstance(value, dict):
-            return False
-        found = {((), ()): 0}
-        waiting = [((), ())]
-        while waiting:
-            here = waiting.pop()
-            # There may be far more spots than keys: it ends with the first one that is no key.
-            if here not in value or told[found[here]] != value[here]:
-                return False
-            for spot, number in self.next_spots(here, found[here]):
-                if spot not in found:
-                    found[spot] = number
-                    waiting.append(spot)
-        return len(found) == len(value)
+
+        def fits(spot, number):
+            return spot in value and told[number] == value[spot]
+
+        return isinstance(value, dict) and many_fitting(((), ()), self.next_spots, fits) == len(value)
 
     def next_spots(self, spot, number):
         """Return the list of the spots, with the numbers of their states, to which choices lead from a spot."""

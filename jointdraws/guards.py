@@ -7,6 +7,7 @@ from jointdraws.errors import BadGuard
 from jointdraws.games import out_after
 from jointdraws.needs import need_leagues, need_stake, need_wish
 from jointdraws.ratios import Ratio, is_number, least, total
+from jointdraws.reaching import many_fitting, reached_from
 
 
 def is_guard(draw, first, second, value):
@@ -33,37 +34,36 @@ def kept_to(draw, first, second, wish, guard, *, stake=0):
 
 def _is_guard(leagues, value):
     """Tell whether a value is a guard of the first league."""
-    if not isinstance(value, dict):
+    met = []
+
+    def fits(spot, number):
+        state = leagues.game.states[number]
+        moments = _moments_at(leagues, spot, state)
+        met.extend(moments)
+        acting = _acting_of(leagues, state)
+        return all([moment in value and _is_mix(value[moment], moment[0], acting) for moment in moments])
+
+    if not isinstance(value, dict) or many_fitting(((), ()), _next_spots_for(leagues), fits) is None:
         return False
-    spots = {((), ()): 0}
-    waiting = [((), ())]
-    many = 0
-    while waiting:
-        spot = waiting.pop()
-        state = leagues.game.states[spots[spot]]
-        for moment in _moments_at(leagues, spot, state):
-            # There may be far more moments than keys: it ends with the first one that is no key.
-            if moment not in value or not _is_mix(value[moment], moment[0], _acting_of(leagues, state)):
-                return False
-            many = many + 1
-        for further in _next_spots(leagues, spot, spots[spot]):
-            if further[0] not in spots:
-                spots[further[0]] = further[1]
-                waiting.append(further[0])
-    return many == len(value)
+    return len(met) == len(value)
 
 
-def _next_spots(leagues, spot, number):
-    """Return the list of the spots behind a spot, with the numbers of their states, at which the first league matters.
+def _next_spots_for(leagues):
+    """Return the function that tells to which spots the choices at a spot lead, with the numbers of their states.
 
-    Behind the others it has no moments, but there may be far too many spots to look at.
+    Those at which the first league does not matter any more are left out: there it has no moments, but there may
+    be far too many of them to look at.
     """
-    kept = []
-    for further, after in leagues.game.next_spots(spot, number):
-        people = leagues.game.states[after].draw.people()
-        if any([person in people and person not in further[1] for person in leagues.first]):
-            kept.append((further, after))
-    return kept
+
+    def next_spots(spot, number):
+        kept = []
+        for further, after in leagues.game.next_spots(spot, number):
+            people = leagues.game.states[after].draw.people()
+            if any([person in people and person not in further[1] for person in leagues.first]):
+                kept.append((further, after))
+        return kept
+
+    return next_spots
 
 
 def _acting_of(leagues, state):
@@ -128,20 +128,12 @@ def _least_score(leagues, wish, guard, stake):
     need_stake(stake)
     # Where the first league does not matter any more, all that counts is what the second one does.
     told = Duel(leagues, wish).told()
-    spots = {((), ()): 0}
-    order = [((), ())]
-    at = 0
-    while at < len(order):
-        spot = order[at]
-        for further in _next_spots(leagues, spot, spots[spot]):
-            if further[0] not in spots:
-                spots[further[0]] = further[1]
-                order.append(further[0])
-        at = at + 1
+    spots = reached_from(((), ()), _next_spots_for(leagues))
     values = {}
-    # Longer paths come later in the order, so what is behind a spot is known ahead of it.
-    for spot in reversed(order):
-        values[spot] = _value_by_guard(leagues, spot, spots[spot], guard, values, told)
+    # What is behind a spot must be known ahead of it.
+    order = sorted(spots, key=lambda spot: len(spot[0]))
+    for here in reversed(order):
+        values[here] = _value_by_guard(leagues, here, spots[here], guard, values, told)
     return values[((), ())]
 
 
