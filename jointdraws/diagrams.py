@@ -19,9 +19,9 @@ class Diagrams:
 
     def with_name(self, name):
         """Return the family of the sets that have a name."""
-        return self._number_of((self._ranks[name], 0, 1))
+        return self._number_for((self._ranks[name], 0, 1))
 
-    def _number_of(self, question):
+    def _number_for(self, question):
         """Return the number of the diagram that begins with a question."""
         if question[1] == question[2]:
             return question[1]
@@ -59,7 +59,7 @@ class Diagrams:
                 if None in done:
                     waiting.extend(parts)
                     continue
-                self._combined[key] = self._number_of((rank, done[0], done[1]))
+                self._combined[key] = self._number_for((rank, done[0], done[1]))
             waiting.pop()
         return self._told(strong, (one, other))
 

@@ -5,7 +5,7 @@ knows the one before. So a deed is taken back, and a whole block of them as well
 """
 
 from jointdraws.acting import Acting
-from jointdraws.checks import is_whole
+from jointdraws.checks import is_list, is_whole
 from jointdraws.draws import End, Round, are_numbers_of, givers_of, place_of
 from jointdraws.errors import BadCount, BadPath, BadPlan, NoPerson, NothingToUndo, NotNow
 from jointdraws.games import Game, out_after
@@ -208,7 +208,7 @@ class Live:
 
 def _goes_through(live, liars, plan, numbers):
     """Go through a live draw as far as the numbers of the honest people fit, and tell whether all of them did."""
-    if not isinstance(numbers, (list, tuple)):
+    if not is_list(numbers):
         return False
     then = plan
     for seen in numbers:

@@ -250,6 +250,22 @@ class ExpressionsTest(unittest.TestCase):
                     stored[node.attr] = f"L5 L18 {name}:{node.lineno} {node.attr}"
         self.assertEqual([stored[attribute] for attribute in stored if attribute in methods], [])
 
+    def test_methods_of_the_same_name_take_as_many_arguments(self):
+        taken = {}
+        for name, tree in trees():
+            for made in [node for node in ast.walk(tree) if isinstance(node, ast.ClassDef)]:
+                for method in [item for item in made.body if isinstance(item, ast.FunctionDef) and not item.name.startswith("__")]:
+                    count = len(method.args.args)
+                    self.assertEqual(taken.setdefault(method.name, count), count, f"L22 {name}:{method.lineno}")
+
+    def test_rows_of_exit(self):
+        for name, tree in trees():
+            for method in [node for node in ast.walk(tree) if isinstance(node, ast.FunctionDef) and node.name == "__exit__"]:
+                self.assertIn([arg.arg for arg in method.args.args], [["self", "kind", "value", "trace"]], f"L6 {name}:{method.lineno}")
+                for row in method.body:
+                    self.assertIsInstance(row, ast.Assign, f"L6 {name}:{row.lineno}")
+                    self.assertIsInstance(row.value, ast.Attribute, f"L6 {name}:{row.lineno}")
+
     def test_no_function_has_the_name_of_a_generator(self):
         yields, names = set(), []
         for _, tree in trees():
