@@ -235,6 +235,17 @@ class StatementsTest(unittest.TestCase):
             if not people:
                 self.assertEqual(honest_mean(draw, wish), worth(draw, [], wish))
 
+    def test_everybody_wants_the_same(self):
+        source = random.Random(162)
+        for draw, _ in small_contests(162, 40):
+            wish = random_wish(source, draw)
+            wishes = {person: wish for person in draw.people()}
+            if len(all_habits(draw, wishes)) <= 500:
+                best = max(fraction(wish[name]) for name in draw.ends())
+                for habit in settled_habits(draw, wishes)[:5]:
+                    self.assertEqual([fraction(part) for part in got(draw, wishes, habit).values()], [best] * len(wishes))
+                    self.assertIsNone(breakers(draw, wishes, habit))
+
     def test_opposite_wishes(self):
         source = random.Random(159)
         for draw, _ in small_contests(159, 40):

@@ -47,6 +47,14 @@ class WorthsTest(unittest.TestCase):
             self.assertIsInstance(told, Ratio)
             self.assertEqual(season_worth(tuple(season), tuple(liars[::-1]), budget, stake=stake), told)
 
+    def test_four_draws(self):
+        for season, liars, budget, stake in seasons(176, 25, most=4):
+            if len(season) == 4:
+                due = best_of_season(season, liars, stake, 0, (), min(budget, 3))
+                self.assertEqual(fraction(season_worth(season, liars, min(budget, 3), stake=stake)), due)
+        both = [(unlike(), WIN)] * 4
+        self.assertEqual([season_worth(both, ["bob"], budget).text() for budget in (0, 1, 4, 30)], ["2", "47/16", "4", "4"])
+
     def test_one_draw(self):
         for season, liars, budget, stake in seasons(166, 25, most=1):
             draw, wish = season[0]
