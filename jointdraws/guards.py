@@ -2,7 +2,7 @@
 
 from jointdraws.bouts import Duel, Leagues
 from jointdraws.checks import are_some_of, is_list
-from jointdraws.draws import are_numbers_of, rows_of
+from jointdraws.draws import are_numbers_of
 from jointdraws.errors import BadGuard
 from jointdraws.games import out_after
 from jointdraws.needs import need_leagues, need_stake, need_wish
