@@ -21,17 +21,17 @@ def most_holds(draw, liars, plan):
 
 def worth_within(draw, liars, wish, budget, *, stake=0):
     """Return the greatest score of all plans that keep a budget."""
-    _, saving = _saving_within(draw, liars, wish, budget, stake)
+    _, saving = _saving_for(draw, liars, wish, budget, stake)
     return saving.worth_left(0, budget)
 
 
 def plan_within(draw, liars, wish, budget, *, stake=0):
     """Return a plan that keeps a budget, with the greatest score of all these."""
-    _, saving = _saving_within(draw, liars, wish, budget, stake)
+    _, saving = _saving_for(draw, liars, wish, budget, stake)
     return saving.plan_left(0, budget)
 
 
-def _saving_within(draw, liars, wish, budget, stake):
+def _saving_for(draw, liars, wish, budget, stake):
     """Return the game and the best ways to act within a budget, behind the errors of the functions for a budget."""
     need_liars(draw, liars)
     need_wish(draw, wish)
@@ -78,14 +78,14 @@ def _worths_until_all(draw, liars, wish, stake):
 
 def table_within(draw, liars, wish, budget, *, stake=0):
     """Return the dict from all purses that can be come to within a budget, to the worths there."""
-    game, saving = _saving_within(draw, liars, wish, budget, stake)
+    game, saving = _saving_for(draw, liars, wish, budget, stake)
     purses = reached_from(((), (), budget), _next_purses_in(game))
     return {purse: saving.worth_left(purses[purse], purse[2]) for purse in purses}
 
 
 def is_table_within(draw, liars, wish, budget, value, *, stake=0):
     """Tell whether a value is a dict from just all purses within a budget, to numbers equal to the worths there."""
-    game, saving = _saving_within(draw, liars, wish, budget, stake)
+    game, saving = _saving_for(draw, liars, wish, budget, stake)
 
     def fits(purse, number):
         return purse in value and saving.worth_left(number, purse[2]) == value[purse]

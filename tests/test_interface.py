@@ -1,6 +1,7 @@
 """The examples of the interface, one after the other as they stand there, and the names of the later files."""
 
 import inspect
+import re
 import unittest
 from importlib import import_module
 from pathlib import Path
@@ -66,6 +67,15 @@ class InterfaceTest(unittest.TestCase):
             self.assertEqual(list(vars(caught.exception).values()), [eval(given)], code)
         else:
             self.assertEqual(eval(code, names), eval(due), code)
+
+    def test_readme(self):
+        names = {}
+        text = (Path(__file__).resolve().parent.parent / "README.md").read_text()
+        blocks = re.findall("```python\n(.*?)```", text, re.S)
+        for block in blocks:
+            exec(block, names)
+        self.assertGreater(len(blocks), 3)
+        self.assertEqual([names["bias"].text(), names["price"].text(), len(names["mixed"])], ["3/4", "5", 2])
 
     def test_functions(self):
         for name, functions in SIGNATURES.items():
