@@ -1,12 +1,14 @@
 """Seasons: one to four draws that are gone through one after the other, with one budget."""
 
+from math import lcm
+
 from jointdraws.checks import LETTERS, are_some_of, has_just, is_list
 from jointdraws.draws import Draw, End, count_paths
 from jointdraws.errors import BadLiars, BadPlans, BadSeason, TooMany
 from jointdraws.games import Game
 from jointdraws.honest import is_wish
 from jointdraws.needs import need_budget, need_stake
-from jointdraws.ratios import total
+from jointdraws.ratios import Ratio, total
 from jointdraws.saving import saving_within
 from jointdraws.shapes import rebuilt, same_round, shapes_of
 from jointdraws.stands import Prospects, Season
@@ -138,12 +140,17 @@ def split(season, liars, budget, *, stake=0):
     for draw, wish in season:
         saving = saving_within(Game(shapes_of(draw), liars), wish, stake, budget)
         worths.append([saving.worth_left(0, part) for part in range(budget + 1)])
+    # There may be thousands of sums, so they are those of integers.
+    scale = 1
+    for worth in [one for some in worths for one in some]:
+        scale = lcm(scale, worth.bottom)
+    whole = [[(one * scale).top for one in some] for some in worths]
     best = None
     for budgets in _dealt_out(budget, len(season)):
-        worth = total([some[part] for some, part in zip(worths, budgets)])
-        if best is None or best[1].below(worth):
-            best = (budgets, worth)
-    return best
+        added = sum([some[part] for some, part in zip(whole, budgets)])
+        if best is None or best[1] < added:
+            best = (budgets, added)
+    return best[0], Ratio(best[1], scale)
 
 
 def _dealt_out(budget, many):
