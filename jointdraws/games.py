@@ -84,7 +84,7 @@ class Game:
         shape = self._shapes[place]
         state = State(shape.draw, gone, self._liars)
         if isinstance(shape.draw, Round):
-            state.weights, state.base = _weights_of(state.honest)
+            state.weights, state.base = weights_of(state.honest)
             moves = _moves_of(state)
             state.moves = [[[self._choice_of(shape, gone, way) for way in ways] for ways in move] for move in moves]
         return state
@@ -130,7 +130,7 @@ def out_after(draw, out, held):
     return tuple(sorted(out + held))
 
 
-def _weights_of(givers):
+def weights_of(givers):
     """Return integers in the ratio of the chances of the rows of honest givers, and the sum of them."""
     weights = [1]
     base = 1

@@ -1,11 +1,10 @@
 """Habits: draws of turns in which some people want something of their own each."""
 
 from jointdraws.checks import are_some_of
-from jointdraws.contests import Contest, changed_ways, gets_more, got_by_habit, settled_ways
+from jointdraws.contests import Contest, changed_ways, gets_more, got_by_habit, options_at, settled_ways
 from jointdraws.errors import BadHabit, BadLiars, BadWishes, TooMany
 from jointdraws.groups import all_sets
 from jointdraws.honest import is_wish
-from jointdraws.ratios import greatest, least
 from jointdraws.turns import giver_of, need_turns
 
 MOST_HABITS = 2000
@@ -17,14 +16,14 @@ def habit_shares(draw, wishes, habit):
     names = draw.ends()
     contest = Contest(draw, sorted(wishes), [{each: 1 if each == name else 0 for each in names} for name in names])
     _need_habit(contest, habit)
-    return dict(zip(names, got_by_habit(contest, contest.nodes(), habit)[0]))
+    return dict(zip(names, contest.means(got_by_habit(contest, contest.nodes(), habit)[0])))
 
 
 def got(draw, wishes, habit):
     """Return the dict from the selfish people to the means of their wishes if they keep a habit."""
     contest = _contest_of(draw, wishes)
     _need_habit(contest, habit)
-    return dict(zip(sorted(wishes), got_by_habit(contest, contest.nodes(), habit)[0]))
+    return dict(zip(sorted(wishes), contest.means(got_by_habit(contest, contest.nodes(), habit)[0])))
 
 
 def _need_wishes(draw, value):
@@ -76,35 +75,35 @@ def _better_number(contest, people, habit):
     for node in nodes:
         if contest.is_selfish(node):
             at = people.index(giver_of(node.draw))
-            options = [values[place][at] for place in node.nexts]
-            best = greatest(options)
-            if options[habit[node.gone]] != best:
-                return node.gone, options.index(best)
+            options = options_at(node, values, at)
+            if options[habit[node.gone]] != max(options):
+                return node.gone, options.index(max(options))
     return None
 
 
 def settled_habits(draw, wishes):
     """Return the list of all settled habits, ascending by their numbers, path by path."""
-    paths, ways = _settled(draw, wishes)
+    contest, nodes, ways = _settled(draw, wishes)
+    paths = [node.gone for node in nodes if contest.is_selfish(node)]
     return [dict(zip(paths, numbers)) for numbers, _ in ways]
 
 
 def settled_bounds(draw, wishes):
     """Return the dict from the selfish people to the least and the greatest mean that comes of settled habits."""
-    _, ways = _settled(draw, wishes)
+    contest, _, ways = _settled(draw, wishes)
     bounds = {}
     for at, person in enumerate(sorted(wishes)):
-        means = [values[at] for _, values in ways]
-        bounds[person] = (least(means), greatest(means))
+        numbers = [values[at] for _, values in ways]
+        bounds[person] = tuple(contest.means([min(numbers), max(numbers)]))
     return bounds
 
 
 def _settled(draw, wishes):
-    """Return the list of the paths to all turns of selfish people, and all settled ways to give numbers there."""
+    """Return the contest, its nodes, and all settled ways to give numbers at the turns of selfish people."""
     contest = _contest_of(draw, wishes)
     _need_few_habits(contest)
     nodes = contest.nodes()
-    return [node.gone for node in nodes if contest.is_selfish(node)], settled_ways(contest, nodes, sorted(wishes))
+    return contest, nodes, settled_ways(contest, nodes, sorted(wishes))
 
 
 def breakers(draw, wishes, habit):
@@ -135,7 +134,7 @@ def _broken_by(contest, selfish, habit, people):
     nodes = contest.nodes()
     before = got_by_habit(contest, nodes, habit)[0]
     places = [selfish.index(person) for person in people]
-    for changes, values in changed_ways(contest, nodes, habit, people):
+    for changes, values in changed_ways(contest, nodes, habit, people, places):
         if gets_more(values, before, places):
             told = {path: habit[path] for path in habit}
             for path, number in changes:
