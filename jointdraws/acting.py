@@ -26,9 +26,19 @@ class Acting:
         for number in game.order:
             state = game.states[number]
             if state.weights:
-                self._values[number], self._picks[number] = _best_move(state, self._values, cost)
+                self._values[number], self._picks[number] = self._best_with(state, cost)
             else:
                 self._values[number] = rewards[state.draw.name]
+
+    def _best_with(self, state, cost):
+        """Return the greatest value of a round, and the choices for it, if those behind it are known."""
+        scaled = {after: self._values[after] * factor for after, factor in state.factors}
+        price = cost * state.inner
+
+        def value_of(choice):
+            return scaled[choice[3]] - len(choice[1]) * price
+
+        return best_move(state, value_of)
 
     def worth_at(self, number):
         """Return the worth at a state."""
@@ -74,17 +84,18 @@ def acting_in(draw, liars, wish, stake):
     return Acting(Game(shapes_of(draw), liars), wish, stake)
 
 
-def _best_move(state, values, cost):
-    """Return the greatest mean of a move of a round, and the list of its choices, one for each row."""
-    scaled = {after: values[after] * factor for after, factor in state.factors}
-    price = cost * state.inner
+def best_move(state, value_of):
+    """Return the greatest mean of a move of a round, and the list of its choices, one for each row.
+
+    The values of choices are told by a function; it tells None of those that are not allowed.
+    """
     best = None
     picks = []
     for move in state.moves:
         added = 0
         chosen = []
         for weight, choices in zip(state.weights, move):
-            value, choice = _best_choice(choices, scaled, price)
+            value, choice = _best_choice(choices, value_of)
             added = added + weight * value
             chosen.append(choice)
         if best is None or best < added:
@@ -93,13 +104,13 @@ def _best_move(state, values, cost):
     return best, picks
 
 
-def _best_choice(choices, scaled, price):
-    """Return the greatest value of a choice, less the price for each hold, and this choice."""
+def _best_choice(choices, value_of):
+    """Return the greatest value of a choice, and this choice."""
     best = None
     pick = None
     for choice in choices:
-        value = scaled[choice[3]] - len(choice[1]) * price
-        if best is None or best < value:
+        value = value_of(choice)
+        if value is not None and (best is None or best < value):
             best = value
             pick = choice
     return best, pick

@@ -6,6 +6,7 @@ number that can be left, from 0 on; what is behind a hold is looked up in a lowe
 
 from math import lcm
 
+from jointdraws.acting import best_move
 from jointdraws.ratios import Ratio, as_ratio
 
 
@@ -34,40 +35,22 @@ class Saving:
         for number in self._game.order:
             state = self._game.states[number]
             if state.weights:
-                layer[number], picks[number] = self._best_move(state)
+                layer[number], picks[number] = self._best_at(state)
             else:
                 layer[number] = (rewards[number] * Ratio(self._size)).top
 
-    def _best_move(self, state):
-        """Return the greatest mean of a move in the last layer, and the list of its choices, one for each row."""
+    def _best_at(self, state):
+        """Return the greatest value of a round in the last layer, and the choices for it."""
         factors = dict(state.factors)
-        best = None
-        picks = []
-        for move in state.moves:
-            added = 0
-            chosen = []
-            for weight, choices in zip(state.weights, move):
-                value, choice = self._best_choice(choices, factors, self._cost * state.inner)
-                added = added + weight * value
-                chosen.append(choice)
-            if best is None or best < added:
-                best = added
-                picks = chosen
-        return best, picks
+        price = self._cost * state.inner
 
-    def _best_choice(self, choices, factors, price):
-        """Return the greatest value in the last layer of a choice, less the price for each hold, and this choice."""
-        best = None
-        pick = None
-        for choice in choices:
+        def value_of(choice):
             held = len(choice[1])
-            # In the first one of the choices nobody holds back, so there is always one.
-            if held < len(self._layers):
-                value = self._layers[-1 - held][choice[3]] * factors[choice[3]] - held * price
-                if best is None or best < value:
-                    best = value
-                    pick = choice
-        return best, pick
+            if held >= len(self._layers):
+                return None
+            return self._layers[-1 - held][choice[3]] * factors[choice[3]] - held * price
+
+        return best_move(state, value_of)
 
     def worth_left(self, number, left):
         """Return the worth at a state if so many holds are left; with more than there are layers for it is the same."""
